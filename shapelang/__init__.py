@@ -1,0 +1,1 @@
+"""Shapelang: a small language with inferred schemes, complete matches, and a compiler."""
