@@ -19,14 +19,14 @@ def boxes(many, inner=0):
     return inner
 
 
-def broad(nodes):
-    """A shape with just so many nodes and few levels, whose variables are all 0."""
+def broad(nodes, leaf=0):
+    """A shape with just so many nodes and few levels, whose innermost parts are all the same."""
     if nodes == 1:
-        return 0
+        return leaf
     parts = min(3, nodes - 1)
     left = nodes - 1
     sizes = [left // parts + (1 if part < left % parts else 0) for part in range(parts)]
-    return ("T", *[broad(size) for size in sizes])
+    return ("T", *[broad(size, leaf) for size in sizes])
 
 
 def gathered(shapes):
@@ -51,6 +51,17 @@ def listed(value, depth):
     for _ in range(depth):
         value = [value]
     return value
+
+
+def random_groups(source, many, names=6, depth=2):
+    """So many groups of a few small equations."""
+    def shape(left):
+        if left == 0 or source.random() < 0.6:
+            return source.choice([*range(names), *range(names), INT, BOOL])
+        name, parts = source.choice([("Box", 1), ("Pair", 2), ("->", 2)])
+        return (name, *[shape(left - 1) for _ in range(parts)])
+
+    return tuple(tuple((shape(depth), shape(depth)) for _ in range(source.randrange(4))) for _ in range(many))
 
 
 def fields_of(error):

@@ -1,0 +1,285 @@
+"""The rules of LANGUAGE.md that can be seen from the code alone, for each file of the package."""
+
+import ast
+import builtins
+import re
+import unittest
+import warnings
+from functools import lru_cache
+from pathlib import Path
+
+PACKAGE = Path(__file__).resolve().parent.parent / "shapelang"
+FILES = sorted(PACKAGE.rglob("*.py"))
+INTERFACE = {
+    "shapes": "is_shape variables_of count_nodes put_in normal instance_by common meeting",
+    "schemes": "Scheme",
+    "equations": "has_solution solve solution_holds",
+    "clashes": "is_clash is_repair find_clash find_repair all_clashes all_repairs fewest_repair",
+    "readers": "parse_shape parse_pattern parse_expression parse_data parse_definition parse_book",
+    "writers": "shape_text pattern_text expression_text data_text definition_text book_text",
+}
+METHODS = {"Scheme": "__init__ shape read __call__ __contains__ __or__ __and__ __len__ __eq__ __str__"}
+BUILTINS = set("""len range enumerate zip min max sum abs sorted reversed int str bool bytes list tuple dict set frozenset
+isinstance ord repr any all divmod iter next map Exception ValueError TypeError KeyError IndexError LookupError
+ZeroDivisionError ArithmeticError OverflowError RuntimeError NotImplementedError AttributeError StopIteration
+NotImplemented property staticmethod classmethod super object""".split())
+NEVER = set("""register mro elements open input law version_info with_traceback add_note attrgetter breakpoint builtins
+compile copyright credits delattr dir eval exec exit gc getattr globals hasattr help id importlib license locals
+methodcaller os quit setattr type vars sys""".split())
+WORDS = set("""type typing typing_extensions enum Enum IntEnum StrEnum Flag IntFlag Generic Protocol ABC ABCMeta
+namedtuple NamedTuple TypedDict TYPE_CHECKING abstractmethod metaclass Meta""".split())
+BUILTIN_METHODS = set("""append clear copy count endswith extend find get index insert isalnum isalpha isdigit islower
+isspace isupper items join keys ljust lower lstrip partition pop remove replace reverse rfind rjust rpartition rsplit
+rstrip setdefault split splitlines startswith strip update upper values zfill bit_length isascii""".split())
+DUNDERS = set("""__init__ __eq__ __repr__ __str__ __len__ __call__ __iter__ __contains__ __or__ __and__""".split())
+PURE_METHODS = DUNDERS - {"__init__", "__call__"}
+CHANGING = set("append clear extend insert pop remove reverse setdefault update".split())
+STATEMENTS = (ast.FunctionDef, ast.ClassDef, ast.Assign, ast.AugAssign, ast.If, ast.While, ast.For, ast.Return, ast.Break,
+              ast.Continue, ast.Pass, ast.Raise, ast.Assert, ast.Delete, ast.Nonlocal, ast.Try, ast.Expr, ast.ImportFrom)
+
+
+@lru_cache(maxsize=None)
+def parsed(file):
+    return ast.parse(file.read_text(encoding="ascii"), filename=str(file))
+
+
+def nodes(file, *kinds):
+    return [node for node in ast.walk(parsed(file)) if isinstance(node, kinds)]
+
+
+def bound_names(tree):
+    """Every name that a file binds, except methods and attributes."""
+    names = []
+    for node in ast.walk(tree):
+        if isinstance(node, ast.Name) and isinstance(node.ctx, ast.Store):
+            names.append(node.id)
+        elif isinstance(node, ast.arg):
+            names.append(node.arg)
+        elif isinstance(node, (ast.FunctionDef, ast.ClassDef)):
+            names.append(node.name)
+        elif isinstance(node, ast.alias):
+            names.append(node.name)
+    return names
+
+
+def method_names(tree):
+    return [part.name for node in tree.body if isinstance(node, ast.ClassDef)
+            for part in node.body if isinstance(part, ast.FunctionDef)]
+
+
+def is_plain(value, functions):
+    if isinstance(value, ast.Constant):
+        return True
+    if isinstance(value, ast.UnaryOp):
+        return isinstance(value.op, ast.USub) and isinstance(value.operand, ast.Constant)
+    if isinstance(value, (ast.Tuple, ast.List)):
+        return all(is_plain(item, functions) for item in value.elts)
+    if isinstance(value, ast.Dict):
+        return all(is_plain(item, functions) for item in [*value.keys, *value.values])
+    return isinstance(value, ast.Name) and value.id in functions
+
+
+def run_by_operators():
+    """The functions that operators, properties and the like run, each with the names that it calls."""
+    functions, waiting = {}, []
+    for file in FILES:
+        for node in parsed(file).body:
+            if isinstance(node, ast.FunctionDef):
+                functions[node.name] = node
+            if isinstance(node, ast.ClassDef):
+                methods = [part for part in node.body if isinstance(part, ast.FunctionDef)]
+                waiting += [part for part in methods if part.name in PURE_METHODS or is_property(part)]
+                functions.update({node.name: part for part in methods if part.name == "__init__"})
+    found = []
+    while waiting:
+        node = waiting.pop()
+        if node not in found:
+            found.append(node)
+            called = [part.func.id for part in ast.walk(node)
+                      if isinstance(part, ast.Call) and isinstance(part.func, ast.Name)]
+            waiting += [functions[name] for name in called if name in functions]
+    return found
+
+
+def is_property(method):
+    return [part.id for part in method.decorator_list] == ["property"]
+
+
+def own_containers(function):
+    """The local names that are assigned lists and dicts made in the function, and nothing else."""
+    made, other = set(), {part.arg for part in function.args.args}
+    for node in ast.walk(function):
+        if isinstance(node, ast.Assign):
+            fresh = isinstance(node.value, (ast.List, ast.Dict, ast.ListComp)) or (
+                isinstance(node.value, ast.Call) and isinstance(node.value.func, ast.Name)
+                and node.value.func.id in ("list", "dict", "sorted"))
+            names = [part.id for target in node.targets for part in ast.walk(target)
+                     if isinstance(part, ast.Name) and isinstance(part.ctx, ast.Store)]
+            (made if fresh else other).update(names)
+        if isinstance(node, ast.For):
+            other.update(part.id for part in ast.walk(node.target) if isinstance(part, ast.Name))
+    return made - other
+
+
+class Operators(unittest.TestCase):
+    def test_what_operators_run_changes_only_what_it_made(self):
+        found = run_by_operators()
+        self.assertTrue({"__or__", "__and__", "meeting", "united", "shape_text"} <= {node.name for node in found})
+        for function in found:
+            own = own_containers(function)
+            for node in ast.walk(function):
+                if isinstance(node, ast.Call) and isinstance(node.func, ast.Attribute):
+                    if node.func.attr in CHANGING:
+                        self.assertIn(ast.unparse(node.func.value), own, function.name)
+                if isinstance(node, ast.Call) and isinstance(node.func, ast.Name):
+                    self.assertNotIn(node.func.id, [part.arg for part in function.args.args])
+                if isinstance(node, ast.Subscript) and isinstance(node.ctx, (ast.Store, ast.Del)):
+                    self.assertIn(ast.unparse(node.value), own, function.name)
+                if isinstance(node, ast.Attribute) and isinstance(node.ctx, (ast.Store, ast.Del)):
+                    self.assertEqual(function.name, "__init__")
+                if isinstance(node, ast.AugAssign):
+                    self.assertIsInstance(node.target, ast.Name)
+                    self.assertIsInstance(node.value, ast.Constant)
+
+
+class Language(unittest.TestCase):
+    def test_files(self):
+        self.assertTrue((PACKAGE / "__init__.py").is_file())
+        for path in PACKAGE.rglob("*"):
+            if "__pycache__" not in path.parts:
+                self.assertRegex(path.name, r"^(__init__|[a-z][a-z0-9_]*)\.py$")
+        for file in FILES:
+            text = file.read_text(encoding="utf-8")
+            self.assertRegex(text, r"\A[ -~\n]*\Z")
+            self.assertLessEqual(text.count("\n"), 399)
+            self.assertLessEqual(max(map(len, text.split("\n"))), 120)
+            with warnings.catch_warnings():
+                warnings.simplefilter("error")
+                compile(text, file.name, "exec")
+
+    def test_functions_are_short_and_undecorated(self):
+        for file in FILES:
+            for node in nodes(file, ast.FunctionDef, ast.ClassDef):
+                if isinstance(node, ast.FunctionDef):
+                    self.assertLessEqual(node.end_lineno - node.lineno + 1, 40, node.name)
+                    self.assertIsNone(node.returns)
+                self.assertLessEqual({part.id for part in node.decorator_list}, {"property", "staticmethod", "classmethod"})
+
+    def test_imports(self):
+        uses = {}
+        for file in FILES:
+            tree = parsed(file)
+            behind = [node for node in tree.body if not isinstance(node, (ast.Expr, ast.ImportFrom))]
+            uses[file.stem] = []
+            for node in nodes(file, ast.Import, ast.ImportFrom):
+                self.assertIsInstance(node, ast.ImportFrom)
+                self.assertIn(node, tree.body)
+                self.assertTrue(all(node.lineno < other.lineno for other in behind))
+                self.assertEqual(node.level, 0)
+                package, name = node.module.split(".")
+                self.assertEqual(package, "shapelang")
+                uses[file.stem].append(name)
+                home = parsed(PACKAGE / f"{name}.py")
+                defined = [part.name for part in home.body if isinstance(part, (ast.FunctionDef, ast.ClassDef))]
+                defined += [part.targets[0].id for part in home.body if isinstance(part, ast.Assign)]
+                for alias in node.names:
+                    self.assertIsNone(alias.asname)
+                    self.assertIn(alias.name, defined)
+        while uses:
+            free = [name for name, others in uses.items() if not any(other in uses for other in others)]
+            self.assertTrue(free, uses)
+            for name in free:
+                del uses[name]
+
+    def test_every_import_is_used(self):
+        for file in FILES:
+            read = [node.id for node in nodes(file, ast.Name)]
+            for node in nodes(file, ast.ImportFrom):
+                for alias in node.names:
+                    self.assertIn(alias.name, read)
+
+    def test_module_level(self):
+        for file in FILES:
+            functions = []
+            for at, node in enumerate(parsed(file).body):
+                if isinstance(node, ast.FunctionDef):
+                    functions.append(node.name)
+                elif isinstance(node, ast.Assign):
+                    self.assertTrue(len(node.targets) == 1 and isinstance(node.targets[0], ast.Name))
+                    self.assertTrue(is_plain(node.value, functions), ast.unparse(node))
+                elif isinstance(node, ast.Expr):
+                    self.assertEqual(at, 0)
+                else:
+                    self.assertIsInstance(node, (ast.ClassDef, ast.ImportFrom))
+
+    def test_statements_and_expressions(self):
+        for file in FILES:
+            for node in nodes(file, ast.stmt):
+                self.assertIsInstance(node, STATEMENTS)
+            banned = (ast.GeneratorExp, ast.SetComp, ast.Set, ast.Div, ast.Await, ast.Yield, ast.YieldFrom, ast.AnnAssign)
+            self.assertEqual([ast.unparse(node) for node in nodes(file, *banned) if isinstance(node, ast.expr)], [])
+            self.assertEqual(nodes(file, ast.Div), [])
+            for node in nodes(file, ast.Constant):
+                self.assertNotIsInstance(node.value, (float, complex, bytes))
+                if isinstance(node.value, str):
+                    self.assertNotIn("%", node.value)
+            for node in nodes(file, ast.Compare):
+                if any(isinstance(sign, (ast.Is, ast.IsNot)) for sign in node.ops):
+                    self.assertIn(ast.unparse(node.comparators[0]), ("None", "True", "False"))
+
+    def test_names(self):
+        for file in FILES:
+            tree = parsed(file)
+            bound = bound_names(tree)
+            free = [name for name in bound if not (name in method_names(tree) and name.startswith("__"))]
+            for name in free:
+                self.assertRegex(name, r"^(_|_?[A-Za-z][A-Za-z0-9_]*)$")
+                self.assertNotIn(name, NEVER)
+                self.assertNotIn(name, set(dir(builtins)))
+            for name in method_names(tree):
+                self.assertTrue(name in DUNDERS or not name.startswith("__"), name)
+                self.assertNotIn(name, NEVER)
+            for node in nodes(file, ast.Name):
+                if isinstance(node.ctx, ast.Load) and node.id in dir(builtins):
+                    self.assertIn(node.id, BUILTINS)
+            imported = [alias.name for node in nodes(file, ast.ImportFrom) for alias in node.names]
+            classes = [node.name for node in nodes(file, ast.ClassDef)]
+            stored = [node.id for node in nodes(file, ast.Name) if isinstance(node.ctx, ast.Store)]
+            stored += [node.arg for node in nodes(file, ast.arg)]
+            self.assertEqual(set(stored) & set([*imported, *classes]), set())
+
+    def test_words(self):
+        for file in FILES:
+            tree = ast.parse(file.read_text(encoding="ascii"))
+            for node in ast.walk(tree):
+                if isinstance(node, (ast.Module, ast.FunctionDef, ast.ClassDef)) and ast.get_docstring(node) is not None:
+                    node.body = node.body[1:] or [ast.Pass()]
+            self.assertEqual(set(re.findall(r"[A-Za-z_]+", ast.unparse(tree))) & WORDS, set())
+
+    def test_methods_that_are_called(self):
+        own = [name for file in FILES for name in method_names(parsed(file))]
+        for file in FILES:
+            for node in nodes(file, ast.Call):
+                if isinstance(node.func, ast.Attribute):
+                    self.assertIn(node.func.attr, BUILTIN_METHODS | set(own))
+                else:
+                    self.assertIsInstance(node.func, ast.Name)
+
+    def test_no_set_is_made(self):
+        for file in FILES:
+            called = [node.func.id for node in nodes(file, ast.Call) if isinstance(node.func, ast.Name)]
+            self.assertEqual({"set", "frozenset", "iter", "next", "map"} & set(called), set())
+
+    def test_the_interface_stands_where_it_is_listed(self):
+        for name, names in INTERFACE.items():
+            tree = parsed(PACKAGE / f"{name}.py")
+            defined = [node.name for node in tree.body if isinstance(node, (ast.FunctionDef, ast.ClassDef))]
+            self.assertLessEqual(set(names.split()), set(defined))
+            for node in tree.body:
+                if isinstance(node, ast.ClassDef) and node.name in METHODS:
+                    methods = {part.name for part in node.body if isinstance(part, ast.FunctionDef)}
+                    self.assertLessEqual(set(METHODS[node.name].split()), methods)
+
+
+if __name__ == "__main__":
+    unittest.main()
