@@ -148,7 +148,8 @@ def data_text(data):
     head = " ".join(["data", name, *[variable_text(parameter) for parameter in range(many)]])
     if not makers:
         return head
-    return f"{head} is {', '.join([named_text(maker) for maker in makers])}"
+    texts = ", ".join([named_text(maker) for maker in makers])
+    return f"{head} is {texts}"
 
 
 def definition_text(definition):

@@ -6,7 +6,7 @@ BOOL = ("Bool",)
 
 # "Any value" of many kinds, none of which is a shape, a solution, a clash, a repair or a text.
 ODD_VALUES = (
-    None, True, False, -1, 10 ** 79, "->", "Int ->", [], [0], {}, {"shape": 0}, ((),), (0, 1, "x"),
+    None, True, False, -1, 10 ** 79, "->", "Int ->", [], [0], {}, {"shape": 0}, (), ((),), (0, 1, "x"),
     ("int",), ("Int", True), ("->", 0), ("->", 0, 1, 2), (("Int",), 0), ("List", [0]), [("Int",)],
     ("Int", None), ("A", 0, 1, 2, 3), ("", 0), (None,), (1.0,), {"a": (1, [2, {"b": None}])},
 )

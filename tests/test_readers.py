@@ -178,7 +178,7 @@ class Data(Asked):
         for text, index in [("", 0), ("data", 1), ("data void", 1), ("data U b", 2), ("data U a a", 3), ("data U a b c", 4),
                             ("data U is", 3), ("data U is a", 3), ("data U is A,", 5), ("data U is A B", None),
                             ("data U is A a b c d", 7), ("data U is A, B, C, D, E", 10), ("data U;", 2), ("U", 0),
-                            ("data U is A a -> b", 5), ("data U a b is", 5), ("data U is A; B", 4), ("data U is A (a -> b", 8)]:
+                            ("data U is A a -> b", 5), ("data U a b is", 5), ("data U is A; B", 4), ("data U a b b", 4), ("data U is A is B", 4), ("data U a a", 3), ("data U is A (a -> b", 8)]:
             if index is None:
                 self.assertEqual(parse_data(text), ("U", 0, (("A", ("B",)),)))
             else:
@@ -194,7 +194,7 @@ class Definitions(Asked):
 
     def test_wrong_texts(self):
         for text, index in [("", 0), ("x", 1), ("x is", 2), ("X is 1", 0), ("x as is 1", 2), ("x as a", 3), ("x as a = 1", 3),
-                            ("x = 1", 1), ("x is 1;", 3), ("x is 1 is 2", 3), ("data is 1", 0), ("x as len is 1", 2)]:
+                            ("x = 1", 1), ("x is 1;", 3), ("x is 1 is 2", 3), ("data is 1", 0), ("x as len is 1", 2), ("x as Int as Int is 1", 3)]:
             self.bad(parse_definition, text, index)
 
 

@@ -155,6 +155,9 @@ class Expressions(Asked):
             "(x = y) + 1": op("+", op("=", X, Y), ONE), "1 - (x < y)": op("-", ONE, op("<", X, Y)),
             "f x * f y": op("*", ("call", F, X), ("call", F, Y)), "f (x * y)": ("call", F, op("*", X, Y)),
             "(x + y) 1": ("call", op("+", X, Y), ONE), "Box x + Nil": op("+", PART, NIL), "x + y - 1": op("-", op("+", X, Y), ONE),
+            "x + 1 = y - 1": op("=", op("+", X, ONE), op("-", Y, ONE)), "x * 1 = y * 1": op("=", op("*", X, ONE), op("*", Y, ONE)),
+            "x - 1 < y + 1": op("<", op("-", X, ONE), op("+", Y, ONE)), "(x - y) * (y + 1)": op("*", op("-", X, Y), op("+", Y, ONE)),
+            "x * y - 1 * y": op("-", op("*", X, Y), op("*", ONE, Y)), "x * y + 1 * y": op("+", op("*", X, Y), op("*", ONE, Y)),
             "Box (x = 1)": ("make", "Box", op("=", X, ONE)),
         })
 
@@ -195,7 +198,7 @@ class Expressions(Asked):
 
     def test_random_expressions(self):
         source = random.Random(3)
-        for _ in range(400):
+        for _ in range(1500):
             self.exact(expression_text, parse_expression, random_expression(source, 3))
 
 
