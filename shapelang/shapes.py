@@ -78,7 +78,7 @@ def count_nodes(shape):
 def with_variables(shape, table):
     """Return the shape in which each variable in the table is replaced by its shape, at once."""
     if not isinstance(shape, tuple):
-        return table.get(shape, shape)
+        return table[shape] if shape in table else shape
     return (shape[0], *[with_variables(part, table) for part in shape[1:]])
 
 
@@ -120,23 +120,31 @@ def instance_by(general, special):
     return tuple([found[variable] for variable in variables_of(general)])
 
 
-def unlike_parts(one, other):
-    """Return the list of the pairs of parts, from left to right, that have nothing in common."""
-    if not same_front(one, other):
-        return [(one, other)]
-    return [pair for left, right in zip(one[1:], other[1:]) for pair in unlike_parts(left, right)]
-
-
-def pattern_by(one, other, pairs):
-    """Return the common pattern of two shapes with the numbers of the pairs as its variables."""
-    if not same_front(one, other):
-        return pairs.index((one, other))
-    return (one[0], *[pattern_by(left, right, pairs) for left, right in zip(one[1:], other[1:])])
-
-
 def common(one, other):
     """Return the common pattern of two shapes in normal form."""
-    return normal(pattern_by(one, other, unlike_parts(one, other)))
+    nodes, numbers = numbered((one, other))
+    # The variables of the pattern by the pairs of parts, by their numbers, that they stand for.
+    found = {}
+    done = []
+    waiting = [(numbers[0], numbers[1])]
+    while waiting:
+        left, right = waiting.pop()
+        # A Name and a number of parts: these parts are done.
+        if isinstance(left, str):
+            start = len(done) - right
+            part = (left, *done[start:])
+            del done[start:]
+            done.append(part)
+            continue
+        first, second = nodes[left], nodes[right]
+        if same_front(first, second):
+            waiting.append((first[0], len(first) - 1))
+            waiting.extend(list(zip(first[:0:-1], second[:0:-1])))
+            continue
+        if (left, right) not in found:
+            found[(left, right)] = len(found)
+        done.append(found[(left, right)])
+    return done[0]
 
 
 def apart(shape, other):
