@@ -9,6 +9,7 @@ KEYWORDS = ("fun", "let", "in", "match", "with", "end", "as", "data", "is", "hol
 # A Name and a word have at most so many signs, a number at most so many digits.
 LONGEST = 8
 MOST_DIGITS = 6
+GREATEST = 999999
 
 
 def is_integer(value):

@@ -26,3 +26,27 @@ def has_room(expression):
             return False
         waiting.extend([(part, around + 1) for part in parts_of_place(place)])
     return True
+
+
+def places_of(expression):
+    """Return the list of all places of an expression or a pattern in order."""
+    places = []
+    waiting = [expression]
+    while waiting:
+        place = waiting.pop()
+        places.append(place)
+        waiting.extend(parts_of_place(place)[::-1])
+    return places
+
+
+def numbers_of_parts(places):
+    """Return, for each of all places in order, the tuple of the numbers of its parts."""
+    numbers = [() for _ in places]
+    ends = [0 for _ in places]
+    for number in range(len(places) - 1, -1, -1):
+        end = number + 1
+        for _ in parts_of_place(places[number]):
+            numbers[number] = (*numbers[number], end)
+            end = ends[end]
+        ends[number] = end
+    return numbers

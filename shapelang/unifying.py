@@ -90,11 +90,8 @@ def parts_at(nodes, stands, number):
     return [stands[part] for part in node[1:]]
 
 
-def ordered(nodes, stands):
-    """Return the nodes that stand for some, each ahead of its parts.
-
-    Return None if one had to be within itself.
-    """
+def peeled(nodes, stands):
+    """Return the nodes that stand for some, each ahead of its parts, as far as they are not within themselves."""
     standing = [number for number in range(len(nodes)) if stands[number] == number]
     uses = [0 for _ in nodes]
     for number in standing:
@@ -109,6 +106,16 @@ def ordered(nodes, stands):
             uses[part] = uses[part] - 1
             if uses[part] == 0:
                 waiting.append(part)
+    return order
+
+
+def ordered(nodes, stands):
+    """Return the nodes that stand for some, each ahead of its parts.
+
+    Return None if one had to be within itself.
+    """
+    order = peeled(nodes, stands)
+    standing = [number for number in range(len(nodes)) if stands[number] == number]
     return order if len(order) == len(standing) else None
 
 

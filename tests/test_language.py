@@ -15,6 +15,10 @@ INTERFACE = {
     "schemes": "Scheme",
     "equations": "has_solution solve solution_holds",
     "clashes": "is_clash is_repair find_clash find_repair all_clashes all_repairs fewest_repair",
+    "papers": "chain_shows paper_of paper_holds",
+    "programs": "datas_error expression_error count_places part_at replaced binder_of",
+    "inferring": "groups_of infer derive derivation_holds hole_scheme clashes_of repairs_of",
+    "datas": "is_known makers_of parts_of least_form empty_paper empty_holds",
     "readers": "parse_shape parse_pattern parse_expression parse_data parse_definition parse_book",
     "writers": "shape_text pattern_text expression_text data_text definition_text book_text",
 }
@@ -219,6 +223,9 @@ class Language(unittest.TestCase):
             banned = (ast.GeneratorExp, ast.SetComp, ast.Set, ast.Div, ast.Await, ast.Yield, ast.YieldFrom, ast.AnnAssign)
             self.assertEqual([ast.unparse(node) for node in nodes(file, *banned) if isinstance(node, ast.expr)], [])
             self.assertEqual(nodes(file, ast.Div), [])
+            for node in nodes(file, ast.BinOp):
+                if isinstance(node.op, ast.Pow):
+                    self.assertIsInstance(node.right, ast.Constant)
             for node in nodes(file, ast.Constant):
                 self.assertNotIsInstance(node.value, (float, complex, bytes))
                 if isinstance(node.value, str):
@@ -264,6 +271,9 @@ class Language(unittest.TestCase):
                     self.assertIn(node.func.attr, BUILTIN_METHODS | set(own))
                 else:
                     self.assertIsInstance(node.func, ast.Name)
+                for part in node.args:
+                    if isinstance(part, ast.Starred):
+                        self.assertIsInstance(part.value, (ast.Name, ast.Attribute))
 
     def test_no_set_is_made(self):
         for file in FILES:
