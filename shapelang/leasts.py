@@ -15,28 +15,28 @@ def size_of_maker(sizes, parts):
 def least_makers(family):
     """Return the dicts of the least sizes of the shapes that have forms, and of the makers of the least forms."""
     sizes = dict([(number, 0) for number in family.met if not family.is_data(number)])
-    makers = {}
+    chosen = {}
     found = True
     while found:
         found = False
         for number in family.makers:
             for index, (_, parts) in enumerate(family.makers[number]):
                 size = size_of_maker(sizes, parts)
-                if size is not None and (number not in sizes or (size, index) < (sizes[number], makers[number])):
+                if size is not None and (number not in sizes or (size, index) < (sizes[number], chosen[number])):
                     sizes[number] = size
-                    makers[number] = index
+                    chosen[number] = index
                     found = True
-    return sizes, makers
+    return sizes, chosen
 
 
-def least_forms(family, sizes, makers):
+def least_forms(family, sizes, chosen):
     """Return the dict of the first forms of the shapes, by their numbers, as far as they are not too large.
 
     The parts of a first form are first forms, and of lesser sizes.
     """
-    forms = dict([(number, ANY) for number in sizes if number not in makers])
-    for size, number in sorted([(sizes[number], number) for number in makers]):
+    forms = dict([(number, ANY) for number in sizes if number not in chosen])
+    for size, number in sorted([(sizes[number], number) for number in chosen]):
         if size <= FORM:
-            name, parts = family.makers[number][makers[number]]
+            name, parts = family.makers[number][chosen[number]]
             forms[number] = ("make", name, *[forms[part] for part in parts])
     return forms

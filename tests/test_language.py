@@ -18,11 +18,18 @@ INTERFACE = {
     "papers": "chain_shows paper_of paper_holds",
     "programs": "datas_error expression_error count_places part_at replaced binder_of",
     "inferring": "groups_of infer derive derivation_holds hole_scheme clashes_of repairs_of",
+    "values": "is_value is_form form_of scheme_of",
+    "counting": "count_forms form_at index_of each_form",
+    "rows": "rows_error meets first_row bound_by",
+    "trees": "tree_of tree_holds Tree",
     "datas": "is_known makers_of parts_of least_form empty_paper empty_holds",
     "readers": "parse_shape parse_pattern parse_expression parse_data parse_definition parse_book",
     "writers": "shape_text pattern_text expression_text data_text definition_text book_text",
 }
-METHODS = {"Scheme": "__init__ shape read __call__ __contains__ __or__ __and__ __len__ __eq__ __str__"}
+METHODS = {
+    "Scheme": "__init__ shape read __call__ __contains__ __or__ __and__ __len__ __eq__ __str__",
+    "Tree": "__init__ shown __call__ __contains__ __len__ __eq__ __str__",
+}
 BUILTINS = set("""len range enumerate zip min max sum abs sorted reversed int str bool bytes list tuple dict set frozenset
 isinstance ord repr any all divmod iter next map Exception ValueError TypeError KeyError IndexError LookupError
 ZeroDivisionError ArithmeticError OverflowError RuntimeError NotImplementedError AttributeError StopIteration
@@ -37,6 +44,7 @@ isspace isupper items join keys ljust lower lstrip partition pop remove replace 
 rstrip setdefault split splitlines startswith strip update upper values zfill bit_length isascii""".split())
 DUNDERS = set("""__init__ __eq__ __repr__ __str__ __len__ __call__ __iter__ __contains__ __or__ __and__""".split())
 PURE_METHODS = DUNDERS - {"__init__", "__call__"}
+CHANGING = set("append clear extend insert pop remove reverse setdefault update".split())
 STATEMENTS = (ast.FunctionDef, ast.ClassDef, ast.Assign, ast.AugAssign, ast.If, ast.While, ast.For, ast.Return, ast.Break,
               ast.Continue, ast.Pass, ast.Raise, ast.Assert, ast.Delete, ast.Nonlocal, ast.Try, ast.Expr, ast.ImportFrom)
 
@@ -220,7 +228,7 @@ class Language(unittest.TestCase):
         for file in FILES:
             for node in nodes(file, ast.stmt):
                 self.assertIsInstance(node, STATEMENTS)
-            banned = (ast.GeneratorExp, ast.SetComp, ast.Set, ast.Div, ast.Await, ast.Yield, ast.YieldFrom, ast.AnnAssign)
+            banned = (ast.GeneratorExp, ast.SetComp, ast.Set, ast.Div, ast.Await, ast.YieldFrom, ast.AnnAssign)
             self.assertEqual([ast.unparse(node) for node in nodes(file, *banned) if isinstance(node, ast.expr)], [])
             self.assertEqual(nodes(file, ast.Div), [])
             for node in nodes(file, ast.BinOp):
@@ -233,6 +241,31 @@ class Language(unittest.TestCase):
             for node in nodes(file, ast.Compare):
                 if any(isinstance(sign, (ast.Is, ast.IsNot)) for sign in node.ops):
                     self.assertIn(ast.unparse(node.comparators[0]), ("None", "True", "False"))
+
+    def test_generators(self):
+        for file in FILES:
+            whole = [node.value for node in nodes(file, ast.Expr)]
+            for node in nodes(file, ast.Yield):
+                self.assertIn(node, whole)
+            for node in nodes(file, ast.FunctionDef):
+                if any(isinstance(part, ast.Yield) for part in ast.walk(node)):
+                    self.assertFalse(node.name.startswith("__") or node.decorator_list)
+                    inside = [part for part in ast.walk(node) if isinstance(part, (ast.Try, ast.With))]
+                    self.assertEqual(inside, [])
+                    self.assertTrue(all(part.value is None for part in ast.walk(node) if isinstance(part, ast.Return)))
+
+    def test_loops_change_nothing_that_they_go_over(self):
+        for file in FILES:
+            for loop in nodes(file, ast.For):
+                over = {ast.unparse(part) for part in ast.walk(loop.iter) if isinstance(part, (ast.Name, ast.Attribute))}
+                copied = isinstance(loop.iter, ast.Call) and ast.unparse(loop.iter.func) in ("list", "range", "sorted")
+                if copied or isinstance(loop.iter, ast.Subscript) and isinstance(loop.iter.slice, ast.Slice):
+                    continue
+                for node in [part for row in loop.body for part in ast.walk(row)]:
+                    if isinstance(node, ast.Call) and isinstance(node.func, ast.Attribute) and node.func.attr in CHANGING:
+                        self.assertNotIn(ast.unparse(node.func.value), over)
+                    if isinstance(node, ast.Subscript) and isinstance(node.ctx, (ast.Store, ast.Del)):
+                        self.assertNotIn(ast.unparse(node.value), over)
 
     def test_names(self):
         for file in FILES:
