@@ -4,6 +4,7 @@ from shapelang.bounds import NODES
 from shapelang.errors import NoSolution, TooLarge
 from shapelang.names import is_integer
 from shapelang.shapes import is_formed
+from shapelang.sizes import is_small
 from shapelang.unifying import numbered, solved, written
 
 
@@ -42,13 +43,13 @@ def solve(groups):
     found = solved(nodes, all_pairs(pairs))
     if found is None:
         raise NoSolution()
-    stands, order = found
-    shapes = written(nodes, stands, order)
     numbers = variable_numbers(nodes)
-    solution = [(variable, shapes[stands[numbers[variable]]]) for variable in sorted(numbers)]
-    if any([shape is None for _, shape in solution]):
-        raise TooLarge(NODES)
-    return tuple(solution)
+    variables = sorted(numbers)
+    shapes = written(nodes, found, [numbers[variable] for variable in variables])
+    for shape in shapes:
+        if not is_small(shape):
+            raise TooLarge(NODES)
+    return tuple(list(zip(variables, shapes)))
 
 
 def is_assignment(value, variables):

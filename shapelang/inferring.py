@@ -9,6 +9,7 @@ from shapelang.layouts import Layout
 from shapelang.programs import is_place, put_at
 from shapelang.schemes import Scheme
 from shapelang.shapes import is_formed, variables_of, with_variables
+from shapelang.sizes import is_small
 from shapelang.unifying import numbered, solved, written
 
 
@@ -19,22 +20,22 @@ def groups_of(datas, known, expression, *, own=None):
 
 
 def plain_shapes(groups):
-    """Return the list of the shapes of the places in the plain solution, None for one that is too large."""
+    """Return the list of the shapes of the places in the plain solution, which may be too large."""
     nodes, pairs = numbered_groups(groups)
     found = solved(nodes, all_pairs(pairs))
     if found is None:
         raise Clash(find_clash(groups))
-    stands, order = found
-    shapes = written(nodes, stands, order)
     numbers = variable_numbers(nodes)
+    places = [place for place in range(len(groups)) if place in numbers]
+    shapes = dict(list(zip(places, written(nodes, found, [numbers[place] for place in places]))))
     # A place whose variable is in no equation has its variable.
-    return [shapes[stands[numbers[place]]] if place in numbers else place for place in range(len(groups))]
+    return [shapes[place] if place in shapes else place for place in range(len(groups))]
 
 
 def small_shapes(groups):
     """Return the list of the shapes of the places in the plain solution, if none is too large."""
     shapes = plain_shapes(groups)
-    if any([shape is None for shape in shapes]):
+    if not all([is_small(shape) for shape in shapes]):
         raise TooLarge(NODES)
     return shapes
 
@@ -78,7 +79,7 @@ def hole_scheme(datas, known, expression, place, *, own=None):
     if not is_place(expression, place) or place not in Layout(expression).scopes:
         raise NoPlace(place)
     shape = plain_shapes(groups_of(datas, known, put_at(expression, place, ("hole",)), own=own))[place]
-    if shape is None:
+    if not is_small(shape):
         raise TooLarge(NODES)
     return Scheme(shape)
 

@@ -5,7 +5,7 @@ from shapelang.choosing import choice
 from shapelang.equations import numbered_groups
 from shapelang.errors import TooMany
 from shapelang.masks import lies_within, mask_of, members_of, without
-from shapelang.unifying import solved
+from shapelang.unifying import solved_by, variable_masks
 
 
 class Looks:
@@ -13,6 +13,7 @@ class Looks:
 
     def __init__(self, groups):
         self.nodes, self.pairs = numbered_groups(groups)
+        self.variables = variable_masks(self.nodes)
         self.every = mask_of(list(range(len(groups))))
         self.clashes = []
         self.repairs = []
@@ -25,7 +26,7 @@ class Looks:
         if any([not repair & mask for repair in self.repairs]):
             return True
         pairs = [pair for member in members_of(mask) for pair in self.pairs[member]]
-        return solved(self.nodes, pairs) is not None
+        return solved_by(self.nodes, self.variables, pairs) is not None
 
     def lessened(self, mask):
         """Return the clash that is left of a mask, from the last group to the first one."""

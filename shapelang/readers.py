@@ -4,7 +4,7 @@ from shapelang.bounds import NODES, PLACES
 from shapelang.errors import TooLarge
 from shapelang.parsing import parsed
 from shapelang.places import has_room
-from shapelang.shapes import is_small
+from shapelang.sizes import is_small
 
 
 def check_sizes(shapes, expressions):

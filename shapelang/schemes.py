@@ -2,7 +2,7 @@
 
 from shapelang.errors import BadCount, BadShape, NoMeeting
 from shapelang.readers import parse_shape
-from shapelang.shapes import common, instance_by, is_shape, meeting, normal, put_in, variables_of
+from shapelang.shapes import common, instance_by, is_shape, meeting, put_in, renamed, variables_of
 from shapelang.writers import shape_text
 
 
@@ -12,8 +12,9 @@ class Scheme:
     def __init__(self, shape):
         if not is_shape(shape):
             raise BadShape(shape)
-        self._shape = normal(shape)
-        self._variables = variables_of(self._shape)
+        variables = variables_of(shape)
+        self._shape = renamed(shape, variables)
+        self._variables = tuple(range(len(variables)))
 
     @property
     def shape(self):

@@ -2,40 +2,77 @@
 
 Each different shape, and each part of one, is a node and has a number. A node is a variable,
 or a tuple of a Name (or "->") and the numbers of its parts, which are less than its own.
+What is found of some equations is a pair (stands, order): for each node the node that stands
+for all that equal it; and the tuples that stand for variables, each behind those that stand for
+variables within it.
 Schemes meet by operators, which may change nothing: therefore each function here changes only
-lists and dicts that it has made itself.
+lists and dicts that it has made itself. Groups may have many thousand nodes: therefore some
+loops are written out that could be calls.
 """
 
-from shapelang.bounds import DEPTH, NODES
+from shapelang.bounds import DEPTH
 
 
 def numbered(shapes):
     """Return the list of nodes of these shapes, and the list of the shapes' own numbers."""
+    levels = []
+    level = list(shapes)
+    while level:
+        levels.append(level)
+        level = [part for shape in level if isinstance(shape, tuple) for part in shape[1:]]
     table = {}
-    done = []
-    waiting = [(shape, False) for shape in shapes[::-1]]
+    below = []
+    for shapes_of_level in levels[::-1]:
+        numbers = []
+        # The numbers of the parts of this level stand below in the same order.
+        start = 0
+        for node in shapes_of_level:
+            if isinstance(node, tuple):
+                many = len(node)
+                if many == 2:
+                    node = (node[0], below[start])
+                elif many > 2:
+                    node = (node[0], *below[start:start + many - 1])
+                start = start + many - 1
+            numbers.append(table.setdefault(node, len(table)))
+        below = numbers
+    return list(table), below
+
+
+def united(nodes, pairs):
+    """Return, for each node, the node that stands for all that equal it if these pairs are equal.
+
+    A tuple stands for variables, the least variable for others. Return None if unlike tuples had
+    to be equal.
+    """
+    leaders = list(range(len(nodes)))
+    waiting = list(pairs)
     while waiting:
-        shape, ready = waiting.pop()
-        if isinstance(shape, tuple) and not ready:
-            waiting.append((shape, True))
-            waiting.extend([(part, False) for part in shape[:0:-1]])
+        one, other = waiting.pop()
+        # Each step makes the way to the leader shorter for the next time.
+        while leaders[one] != one:
+            leaders[one] = leaders[leaders[one]]
+            one = leaders[one]
+        while leaders[other] != other:
+            leaders[other] = leaders[leaders[other]]
+            other = leaders[other]
+        if one == other:
             continue
-        node = shape
-        if ready:
-            start = len(done) - len(shape) + 1
-            node = (shape[0], *done[start:])
-            del done[start:]
-        if node not in table:
-            table[node] = len(table)
-        done.append(table[node])
-    return list(table), done
-
-
-def leader_of(leaders, number):
-    """Return the node at the end of the way from this one to its leaders."""
-    while leaders[number] != number:
-        number = leaders[number]
-    return number
+        first, second = nodes[one], nodes[other]
+        if isinstance(first, tuple) and isinstance(second, tuple):
+            if first[0] != second[0] or len(first) != len(second):
+                return None
+            waiting.extend(list(zip(first[1:], second[1:])))
+        elif isinstance(second, tuple) or (not isinstance(first, tuple) and second < first):
+            one, other = other, one
+        leaders[other] = one
+    for number in range(len(leaders)):
+        leader = leaders[number]
+        if leader != number:
+            while leaders[leader] != leader:
+                leader = leaders[leader]
+            leaders[number] = leader
+    return leaders
 
 
 def unlike(one, other):
@@ -52,98 +89,102 @@ def precedes(one, other):
     return isinstance(one, tuple) or one < other
 
 
-def united(nodes, pairs):
-    """Return, for each node, the node that stands for all that equal it if these pairs are equal.
+def variable_masks(nodes):
+    """Return, for each node, the mask of the variables in it; each variable has a bit of its own."""
+    masks = []
+    bit = 1
+    for node in nodes:
+        if not isinstance(node, tuple):
+            masks.append(bit)
+            bit = bit + bit
+        elif len(node) == 2:
+            masks.append(masks[node[1]])
+        else:
+            mask = 0
+            for part in node[1:]:
+                mask = mask | masks[part]
+            masks.append(mask)
+    return masks
 
-    Return None if unlike tuples had to be equal.
+
+def ordered(nodes, masks, stands):
+    """Return the tuples that stand for variables, each behind those that stand for variables within it.
+
+    Return None if one had to be within itself: then the way from a tuple to a variable in it, to
+    the tuple that stands for this, and so on, leads back.
     """
-    leaders = list(range(len(nodes)))
-    weights = [1 for _ in nodes]
-    stands = list(range(len(nodes)))
-    waiting = list(pairs)
-    while waiting:
-        pair = waiting.pop()
-        one = leader_of(leaders, pair[0])
-        other = leader_of(leaders, pair[1])
-        if one == other:
-            continue
-        # The lighter side goes below the heavier one, so that the ways to the leaders stay short.
-        if weights[one] < weights[other]:
-            one, other = other, one
-        first, second = nodes[stands[one]], nodes[stands[other]]
-        if unlike(first, second):
-            return None
-        if isinstance(first, tuple) and isinstance(second, tuple):
-            waiting.extend(list(zip(first[1:], second[1:])))
-        if precedes(second, first):
-            stands[one] = stands[other]
-        leaders[other] = one
-        weights[one] = weights[one] + weights[other]
-    return [stands[leader_of(leaders, number)] for number in range(len(nodes))]
-
-
-def parts_at(nodes, stands, number):
-    """Return the list of the nodes that stand for the parts of this one."""
-    node = nodes[number]
-    if not isinstance(node, tuple):
-        return []
-    return [stands[part] for part in node[1:]]
-
-
-def peeled(nodes, stands):
-    """Return the nodes that stand for some, each ahead of its parts, as far as they are not within themselves."""
-    standing = [number for number in range(len(nodes)) if stands[number] == number]
-    uses = [0 for _ in nodes]
-    for number in standing:
-        for part in parts_at(nodes, stands, number):
-            uses[part] = uses[part] + 1
+    owners = {}
+    members = {}
+    left = 0
+    for number, stand in enumerate(stands):
+        if stand != number and isinstance(nodes[stand], tuple) and not isinstance(nodes[number], tuple):
+            owners[masks[number]] = stand
+            members[stand] = masks[number] | (members[stand] if stand in members else 0)
+            left = left | masks[number]
     order = []
-    waiting = [number for number in standing if uses[number] == 0]
-    while waiting:
-        number = waiting.pop()
-        order.append(number)
-        for part in parts_at(nodes, stands, number):
-            uses[part] = uses[part] - 1
-            if uses[part] == 0:
-                waiting.append(part)
+    begun = {}
+    for start in members:
+        if start in begun:
+            continue
+        begun[start] = True
+        road = [start]
+        while road:
+            within = masks[road[-1]] & left
+            if within == 0:
+                left = left & ~members[road[-1]]
+                order.append(road.pop())
+                continue
+            following = owners[within & -within]
+            if following in begun:
+                return None
+            begun[following] = True
+            road.append(following)
     return order
 
 
-def ordered(nodes, stands):
-    """Return the nodes that stand for some, each ahead of its parts.
+def solved_by(nodes, masks, pairs):
+    """Return what is found of the equations of these pairs, None if they have no solution.
 
-    Return None if one had to be within itself.
+    masks are those of variable_masks, for callers who ask about the same nodes many times.
     """
-    order = peeled(nodes, stands)
-    standing = [number for number in range(len(nodes)) if stands[number] == number]
-    return order if len(order) == len(standing) else None
-
-
-def solved(nodes, pairs):
-    """Return (stands, order) as united and ordered give them, None if there is no solution."""
     stands = united(nodes, pairs)
     if stands is None:
         return None
-    order = ordered(nodes, stands)
+    order = ordered(nodes, masks, stands)
     return None if order is None else (stands, order)
 
 
-def written(nodes, stands, order):
-    """Return the list of the shapes of the nodes that stand for some.
+def solved(nodes, pairs):
+    """Return what is found of the equations of these pairs, None if they have no solution."""
+    return solved_by(nodes, variable_masks(nodes), pairs)
 
-    None is in the place of a shape that is too large, and of a node that stands for none.
+
+def shape_at(nodes, values, number, levels):
+    """Return the shape of a node with these values, by the numbers of their nodes, in the place of variables.
+
+    Below so many levels, which are more than a shape may have, anything is as good.
     """
-    counts = [0 for _ in nodes]
-    levels = [0 for _ in nodes]
-    shapes = [None for _ in nodes]
-    for number in order[::-1]:
-        parts = parts_at(nodes, stands, number)
-        # Counts may be as great as 2 ** 50 and more: what lies beyond the bound is all the same.
-        counts[number] = min(1 + sum([counts[part] for part in parts]), NODES + 1)
-        levels[number] = 1 + max([levels[part] for part in parts], default=0)
-        node = nodes[number]
-        if not isinstance(node, tuple):
-            shapes[number] = node
-        elif counts[number] <= NODES and levels[number] <= DEPTH:
-            shapes[number] = (node[0], *[shapes[part] for part in parts])
-    return shapes
+    node = nodes[number]
+    if not isinstance(node, tuple):
+        return values[number]
+    if levels == 0:
+        return 0
+    return (node[0], *[shape_at(nodes, values, part, levels - 1) for part in node[1:]])
+
+
+def written(nodes, found, numbers):
+    """Return the list of the shapes of the nodes with these numbers; the caller looks whether they are too large.
+
+    A shape may have 2 ** 50 nodes, but what is put into it is the same tuple wherever it is put.
+    """
+    stands, order = found
+    values = [nodes[stand] for stand in stands]
+    members = {}
+    for number, stand in enumerate(stands):
+        if not isinstance(nodes[number], tuple):
+            members[stand] = [*members[stand], number] if stand in members else [number]
+    for stand in order:
+        shape = shape_at(nodes, values, stand, DEPTH)
+        for number in members[stand]:
+            values[number] = shape
+    return [shape_at(nodes, values, number, DEPTH) for number in numbers]

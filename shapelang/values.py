@@ -10,6 +10,7 @@ from shapelang.makers import maker_table
 from shapelang.names import is_integer, is_name
 from shapelang.schemes import Scheme
 from shapelang.shapes import normal, with_variables
+from shapelang.sizes import is_small
 from shapelang.unifying import solved, written
 
 # What stands for any function.
@@ -135,8 +136,7 @@ def scheme_of(datas, value):
     found = solved(nodes, pairs[0])
     if found is None:
         return None
-    stands, order = found
-    shape = written(nodes, stands, order)[stands[variable_numbers(nodes)[0]]]
-    if shape is None:
+    shape = written(nodes, found, [variable_numbers(nodes)[0]])[0]
+    if not is_small(shape):
         raise TooLarge(NODES)
     return Scheme(normal(shape))
