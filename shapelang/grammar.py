@@ -14,6 +14,24 @@ from shapelang.shapes import MOST_PARTS
 
 MOST_MAKERS = 4
 ANY_NUMBER = -1
+# What the rules may begin with.
+FIRSTS = {
+    "<shape>": ("a variable", "a Name", "("),
+    "<step>": ("a variable", "a Name", "("),
+    "<part>": ("a variable", "a Name", "("),
+    "<pattern>": ("_", "a word", "a Name", "("),
+    "<inner>": ("_", "a word", "a Name", "("),
+    "<expression>": ("fun", "let", "a Name", "a number", "a word", "hole", "(", "match"),
+    "<compare>": ("a Name", "a number", "a word", "hole", "(", "match"),
+    "<sum>": ("a Name", "a number", "a word", "hole", "(", "match"),
+    "<product>": ("a Name", "a number", "a word", "hole", "(", "match"),
+    "<call>": ("a Name", "a number", "a word", "hole", "(", "match"),
+    "<atom>": ("a Name", "a number", "a word", "hole", "(", "match"),
+    "<nameless>": ("a number", "a word", "hole", "(", "match"),
+    "<data>": ("data",),
+    "<maker>": ("a Name",),
+    "<definition>": ("a word",),
+}
 
 
 def shape_rules():

@@ -1,7 +1,8 @@
 """Tokens: how a text is divided, and what each token may stand for in the grammar.
 
-The kinds of a token are the token itself and the groups of tokens that it belongs to. The names
-of the groups have a blank in them, as no token has: so neither is taken for the other.
+The code of a token is all that the grammar asks of it: the token itself, or the group of tokens
+that it belongs to. The names of the groups have a blank in them, as no token has: so neither is
+taken for the other.
 """
 
 from shapelang.names import is_name, is_number, is_word, variable_of
@@ -9,12 +10,19 @@ from shapelang.names import is_name, is_number, is_word, variable_of
 BLANKS = " \n"
 # What the tokens after the last one would be.
 END = "the end"
-SIGN_KINDS = {
-    "+": "a sign of sums",
-    "-": "a sign of sums",
-    "*": "a sign of products",
-    "<": "a sign of compares",
-    "=": "a sign of compares",
+# Marks of one sign; - is one, too, if it is not the beginning of an arrow.
+MARKS = "()|_,;+*<="
+OTHER_MARKS = ("->", "-")
+# What a token with this code may stand for, if that is not the code alone.
+KINDS = {
+    "+": ("+", "a sign of sums"),
+    "-": ("-", "a sign of sums"),
+    "*": ("*", "a sign of products"),
+    "<": ("<", "a sign of compares"),
+    "=": ("=", "a sign of compares"),
+    "a": ("a", "a word", "a variable"),
+    "b": ("b", "a word", "a variable"),
+    "a variable": ("a word", "a variable"),
 }
 
 
@@ -34,8 +42,8 @@ def token_end(text, start):
     return end
 
 
-def tokens_of(text):
-    """Return the list of the tokens of a text."""
+def tokens_one_by_one(text):
+    """Return the list of the tokens of a text, whatever signs it has."""
     tokens = []
     start = 0
     while start < len(text):
@@ -46,17 +54,42 @@ def tokens_of(text):
     return tokens
 
 
-def kinds_of(token):
-    """Return the tuple of what the token may stand for."""
+def is_plain(token):
+    """Whether this is one token: a run of letters and digits, or a mark."""
+    return in_run(token) or token in MARKS or token in OTHER_MARKS
+
+
+def tokens_of(text):
+    """Return the list of the tokens of a text."""
+    spaced = text.replace("\n", " ").replace("-", " - ").replace(" - >", " -> ")
+    for mark in MARKS:
+        spaced = spaced.replace(mark, f" {mark} ")
+    tokens = [token for token in spaced.split(" ") if token]
+    # Other signs than blanks and marks are seldom, and divide a text, too.
+    if all([is_plain(token) for token in sorted(set(tokens))]):
+        return tokens
+    return tokens_one_by_one(text)
+
+
+def code_of(token):
+    """Return the code of a token."""
     if is_word(token):
-        return (token, "a word") if variable_of(token) is None else (token, "a word", "a variable")
+        if token in KINDS:
+            return token
+        return "a word" if variable_of(token) is None else "a variable"
     if is_name(token):
-        return (token, "a Name")
-    if is_number(token):
-        return (token, "a number")
-    if token in SIGN_KINDS:
-        return (token, SIGN_KINDS[token])
-    return (token,)
+        return "a Name"
+    return "a number" if is_number(token) else token
+
+
+def codes_of(tokens):
+    """Return the dict of the codes of these tokens."""
+    return dict([(token, code_of(token)) for token in sorted(set(tokens))])
+
+
+def kinds_of(code):
+    """Return the tuple of what a token with this code may stand for."""
+    return KINDS[code] if code in KINDS else (code,)
 
 
 def is_kept(kind):

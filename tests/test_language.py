@@ -308,10 +308,14 @@ class Language(unittest.TestCase):
                     if isinstance(part, ast.Starred):
                         self.assertIsInstance(part.value, (ast.Name, ast.Attribute))
 
-    def test_no_set_is_made(self):
+    def test_sets_stand_in_sorted_alone(self):
         for file in FILES:
+            inside = [part for node in nodes(file, ast.Call) if ast.unparse(node.func) == "sorted" for part in node.args[:1]]
+            for node in nodes(file, ast.Call):
+                if ast.unparse(node.func) == "set":
+                    self.assertIn(node, inside)
             called = [node.func.id for node in nodes(file, ast.Call) if isinstance(node.func, ast.Name)]
-            self.assertEqual({"set", "frozenset", "iter", "next", "map"} & set(called), set())
+            self.assertEqual({"frozenset", "iter", "next", "map"} & set(called), set())
 
     def test_the_interface_stands_where_it_is_listed(self):
         for name, names in INTERFACE.items():
