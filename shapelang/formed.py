@@ -5,7 +5,7 @@ from shapelang.names import GREATEST, is_integer, is_name, is_word
 
 SIGNS = ("+", "-", "*", "<", "=")
 # How many items each form has; a make has any number of parts behind its Name.
-ITEMS = {"number": 2, "word": 2, "hole": 1, "fun": 3, "call": 3, "let": 4, "op": 4, "match": 3, "any": 1}
+ITEMS = {"number": 2, "word": 2, "hole": 1, "fun": 3, "call": 3, "let": 4, "op": 4, "any": 1}
 PATTERNS = ("any", "word", "make")
 
 
@@ -23,7 +23,7 @@ def is_rows(value):
 
 def is_sign(value):
     """Whether the value is the sign of an op."""
-    return isinstance(value, str) and value in SIGNS
+    return value in SIGNS
 
 
 def has_second(value, kind):

@@ -4,7 +4,19 @@ A row is named by its number. None in the place of a row stands for the equation
 itself, which needs no row.
 """
 
-from shapelang.unifying import precedes, unlike
+
+def unlike(one, other):
+    """Whether two nodes are tuples that cannot be equal by their own items."""
+    if not isinstance(one, tuple) or not isinstance(other, tuple):
+        return False
+    return one[0] != other[0] or len(one) != len(other)
+
+
+def precedes(one, other):
+    """Whether the first node stands for both: a tuple for variables, the least for variables."""
+    if isinstance(other, tuple):
+        return False
+    return isinstance(one, tuple) or one < other
 
 
 class Proof:

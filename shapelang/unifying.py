@@ -75,20 +75,6 @@ def united(nodes, pairs):
     return leaders
 
 
-def unlike(one, other):
-    """Whether two nodes are tuples that cannot be equal by their own items."""
-    if not isinstance(one, tuple) or not isinstance(other, tuple):
-        return False
-    return one[0] != other[0] or len(one) != len(other)
-
-
-def precedes(one, other):
-    """Whether the first node stands for both: a tuple for variables, the least for variables."""
-    if isinstance(other, tuple):
-        return False
-    return isinstance(one, tuple) or one < other
-
-
 def variable_masks(nodes):
     """Return, for each node, the mask of the variables in it; each variable has a bit of its own."""
     masks = []
@@ -117,7 +103,7 @@ def ordered(nodes, masks, stands):
     members = {}
     left = 0
     for number, stand in enumerate(stands):
-        if stand != number and isinstance(nodes[stand], tuple) and not isinstance(nodes[number], tuple):
+        if isinstance(nodes[stand], tuple) and not isinstance(nodes[number], tuple):
             owners[masks[number]] = stand
             members[stand] = masks[number] | (members[stand] if stand in members else 0)
             left = left | masks[number]

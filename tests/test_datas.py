@@ -104,6 +104,13 @@ class Met(Raises, unittest.TestCase):
         datas = (("Box", 1, ()), ("Thrice", 1, (("Mk", ("->", ("->", 0, 0), ("Box", 0))),)))
         self.assertEqual(makers_of(datas, ("Thrice", even(65))), ("Mk",))
         self.refused(TooLarge, MET, makers_of, datas, ("Thrice", even(67)))
+        # Twice a shape of 99 nodes and one, two or three more.
+        for more, right in ((("->", 0, 0), True), (("Box", ("->", 0, 0)), True), (("Box", ("Box", ("->", 0, 0))), False)):
+            datas = (("Box", 1, ()), ("Twice", 1, (("Mk", more),)))
+            if right:
+                self.assertEqual(makers_of(datas, ("Twice", even(99))), ("Mk",))
+            else:
+                self.refused(TooLarge, MET, makers_of, datas, ("Twice", even(99)))
 
 
 def even(nodes):

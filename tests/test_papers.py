@@ -1,5 +1,6 @@
 import random
 import unittest
+from itertools import product
 
 from samples import BOOL, INT, ODD_VALUES, Raises, boxes, broad, random_groups
 from shapelang.clashes import find_clash
@@ -213,6 +214,14 @@ class PapersOfOthers(unittest.TestCase):
                      (False, 2, True), (0, 2, True), (0, 2, None), ((0, 2, 1),)):
             self.assertFalse(holds(*ring), ring)
         self.assertFalse(paper_holds(groups, (0,), (chain, [0, 2, 1], ((),))))
+        # What the rows have on the left, and the variables of what they have on the right.
+        shown = [(0, {1}), (2, {0, 1}), (1, {2}), (None, {0}), (3, None)]
+        for many in (1, 2, 3, 4):
+            for rows in product(range(5), repeat=many):
+                pairs = [shown[row] for row in rows]
+                right = all(one is not None and other is not None for one, other in pairs) and all(
+                    pairs[at][0] in pairs[at - 1][1] for at in range(many))
+                self.assertEqual(holds(*rows), right, rows)
         self.assertFalse(paper_holds(groups, (0,), ((*chain, ("given", 1, 0)), (0, 2, 1), ((),))))
         self.assertFalse(paper_holds(groups, (0,), (chain, (0, 2, 1), ())))
 
@@ -222,6 +231,14 @@ class PapersOfOthers(unittest.TestCase):
         for ring, right in (((), True), ((0,), True), ((1,), False), ((0, 0), True)):
             self.assertEqual(paper_holds(groups, (0,), (chain, ring, ((),))), right)
         self.assertFalse(paper_holds(groups, (0,), (chain[::-1], (), ((),))))
+
+    def test_rows_that_belong_to_no_ring(self):
+        groups = (((0, 0), (0, ("A", 0)), (("A", 0), ("A", 0)), (("A", 0), 0), (1, 0), (("A", 1), ("B", 0))),)
+        chain = tuple(("given", 0, index) for index in range(6))
+        for row in range(6):
+            self.assertEqual(paper_holds(groups, (0,), (chain, (row,), ((),))), row == 1)
+            last = chain[:row + 1]
+            self.assertEqual(paper_holds(groups, (0,), (last, (), ((),))), row == 5)
 
     def test_any_value(self):
         for value in [*ODD_VALUES, (self.chain, ()), (self.chain, (), self.solutions, ()),

@@ -278,6 +278,21 @@ class TreesOfOthers(Raises, unittest.TestCase):
                      look((), ("Both", look((0,), *inner[2], inner[2][1]))), look((), ("Both", look((0,), inner[2][1], inner[2][1])))):
             self.assertFalse(tree_holds(WORLD, shape, rows, tree), tree)
 
+    def test_ways_to_parts_that_are_not_there(self):
+        shape = ("Pair", BOOL, ("Pair", BOOL, BOOL))
+        last = make("Both", ANY, make("Both", ANY, YES))
+
+        def tree(way, inner):
+            return look((), ("Both", look(way, ("Both", look(inner, ("False", NONE), ("True", row(0)))))))
+
+        for way, inner, right in (((1,), (1, 1), True), ((-1,), (-1, -1), False), ((1,), (1, -1), False), ((1,), (1, 2), False),
+                                  ((1,), (1, 5), False), ((-1,), (1, 1), False), ((1,), (-1, 1), False), ((2,), (2, 1), False),
+                                  ((1,), (1, True), False), ((True,), (True, 1), False), ((1,), (1, 1, 0), False)):
+            self.assertEqual(tree_holds(WORLD, shape, (last,), tree(way, inner)), right, (way, inner))
+        for way, right in (((1,), True), ((-1,), False), ((True,), False), ((2,), False), ((1, 0), False)):
+            tree_of_one = look((), ("Both", look(way, ("False", NONE), ("True", row(0)))))
+            self.assertEqual(tree_holds(WORLD, ("Pair", BOOL, BOOL), (make("Both", ANY, YES),), tree_of_one), right)
+
     def test_ends(self):
         for end, right in ((row(0), True), (row(1), False), (row(2), False), (NONE, False), (row(False), False), (row(-1), False),
                            (("row",), False), (("row", 0, 0), False), (["row", 0], False), ("row", False), (None, False),
