@@ -63,8 +63,9 @@ def is_ring(shown, ring):
 
 def chain_holds(groups, clash, chain, ring):
     """Whether a chain with its ring shows that the groups of the clash have no solution."""
+    given = dict([(number, groups[number]) for number in clash])
     try:
-        shown = equations_shown(dict([(number, groups[number]) for number in clash]), chain)
+        shown = equations_shown(given, chain)
     except BadChain:
         return False
     return ends_unlike(shown) if ring == () else is_ring(shown, ring)
