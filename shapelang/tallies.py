@@ -17,7 +17,7 @@ class Tally:
         self.forms = dict([(number, []) for number in family.met])
         self.ways = {}
         for number in family.makers:
-            self.ways[number] = [[[] for _ in range(len(parts) + 1)] for _, parts in family.makers[number]]
+            self.ways[number] = [[[] for _ in range(len(maker[1]) + 1)] for maker in family.makers[number]]
 
     def grow(self, size):
         """Find the numbers up to this size."""

@@ -41,7 +41,7 @@ def meets_some(outset, makers, known):
     """Whether a row with these makers meets a form with the makers that are known."""
     if not can_be_met(makers, known):
         return False
-    return all([name in [one for one, _ in outset.branches_at(number)] for _, name, number in makers])
+    return all([name in outset.names_at(number) for _, name, number in makers])
 
 
 def meets_all(outset, makers, known):
@@ -50,7 +50,7 @@ def meets_all(outset, makers, known):
         return False
     # At a way that is not known, another maker that makes values would lead elsewhere.
     left = [(name, number) for way, name, number in makers if way not in known]
-    return all([[name] == [one for one, _ in outset.branches_at(number)] for name, number in left])
+    return all([[name] == outset.names_at(number) for name, number in left])
 
 
 def row_of_end(outset, value):

@@ -35,7 +35,7 @@ class Planting:
     def look_at(self, known, maker):
         """Return the look at the way of a maker of a row."""
         way, _, number = maker
-        names = [name for name, _ in self.outset.branches_at(number)]
+        names = self.outset.names_at(number)
         return ("look", way, tuple([(name, self.tree_at({**known, way: name})) for name in names]))
 
 

@@ -33,6 +33,10 @@ class Outset:
         makers = self.family.makers[number]
         return [(name, parts) for name, parts in makers if all([part in self.valued for part in parts])]
 
+    def names_at(self, number):
+        """Return the list of the Names of these makers."""
+        return [name for name, _ in self.branches_at(number)]
+
     def has_values(self):
         """Whether the shape of the rows has values."""
         return self.family.first in self.valued

@@ -267,6 +267,15 @@ class Language(unittest.TestCase):
                     if isinstance(node, ast.Subscript) and isinstance(node.ctx, (ast.Store, ast.Del)):
                         self.assertNotIn(ast.unparse(node.value), over)
 
+    def test_comprehensions_within_others_have_names_of_their_own(self):
+        for file in FILES:
+            for outer in nodes(file, ast.ListComp, ast.DictComp):
+                names = {part.id for made in outer.generators for part in ast.walk(made.target) if isinstance(part, ast.Name)}
+                for inner in ast.walk(outer):
+                    if isinstance(inner, (ast.ListComp, ast.DictComp)) and inner is not outer:
+                        own = {part.id for made in inner.generators for part in ast.walk(made.target) if isinstance(part, ast.Name)}
+                        self.assertEqual(names & own, set(), ast.unparse(outer))
+
     def test_names(self):
         for file in FILES:
             tree = parsed(file)
