@@ -12,9 +12,12 @@ KEPT = 2
 
 def begins(step, kinds):
     """Whether a step may begin with a token of these kinds."""
-    if step in FIRSTS:
-        return any([kind in FIRSTS[step] for kind in kinds])
-    return step in kinds
+    if step not in FIRSTS:
+        return step in kinds
+    for kind in kinds:
+        if kind in FIRSTS[step]:
+            return True
+    return False
 
 
 def form_for(forms, kinds):

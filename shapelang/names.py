@@ -31,9 +31,9 @@ def is_name(value):
 
 def is_word(value):
     """Whether the value is a word."""
-    if not isinstance(value, str) or not 1 <= len(value) <= LONGEST or value in KEYWORDS:
+    if not isinstance(value, str) or not 1 <= len(value) <= LONGEST or value[0] not in SMALL:
         return False
-    return value[0] in SMALL and consists_of(value, SMALL + DIGITS)
+    return value.isascii() and value.isalnum() and value == value.lower() and value not in KEYWORDS
 
 
 def is_decimal(text):
