@@ -1,7 +1,7 @@
 """Moves: what a step of the grammar does with a token, found once for each step and code."""
 
 from shapelang.actions import ACTIONS
-from shapelang.grammar import FIRSTS, all_rules
+from shapelang.grammar import FIRSTS, rules_for
 from shapelang.tokens import is_kept, kinds_of
 
 # Whether a move takes the token, and keeps it as a part of what is read.
@@ -39,32 +39,15 @@ def repeated(repeats, kinds):
     return ()
 
 
-def repeats_of(step):
-    """Return the tuple of the repeated forms of a step, which may be one or several of them."""
-    return (step,) if step and isinstance(step[0], int) else step
-
-
-def joined_repeats(steps):
-    """Return the list of the steps, the first one last, with neighbouring repeated forms as one step."""
-    found = []
-    for step in steps:
-        if isinstance(step, tuple):
-            behind = found.pop() if found and isinstance(found[-1], tuple) else ()
-            step = (*repeats_of(step), *behind)
-        if step != ():
-            found.append(step)
-    return found
-
-
 class Moves:
-    """The steps with their numbers, and for each step its moves as far as they were needed.
+    """The steps of reading by the rule of a name, and for each one its moves as far as they were needed.
 
     A move is a pair (steps that follow, the first one last; what is done with the token), None
     if no text goes on with this token. actions are the functions of steps that look at no token.
     """
 
-    def __init__(self):
-        self.rules = all_rules()
+    def __init__(self, name):
+        self.rules = rules_for(name)
         self.numbers = {}
         self.steps = []
         self.actions = []
@@ -86,7 +69,7 @@ class Moves:
         while steps:
             first = steps.pop()
             if isinstance(first, tuple):
-                steps.extend(repeated(repeats_of(first), kinds)[::-1])
+                steps.extend(repeated(first, kinds)[::-1])
             elif first in self.rules:
                 form = form_for(self.rules[first], kinds)
                 if form is None:
@@ -102,4 +85,4 @@ class Moves:
 
     def following(self, steps):
         """Return the tuple of the numbers of steps."""
-        return tuple([self.number_of(step) for step in joined_repeats(steps)])
+        return tuple([self.number_of(step) for step in steps])

@@ -11,7 +11,7 @@ def parsed(name, text):
         raise BadText(None)
     tokens = [*tokens_of(text), END]
     codes = codes_of(tokens)
-    moves = Moves()
+    moves = Moves(name)
     made = []
     at = 0
     code = codes[tokens[0]]

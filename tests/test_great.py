@@ -8,7 +8,7 @@ from samples import BOOL, INT, Raises, boxes, broad
 from shapelang.clashes import find_clash, is_clash
 from shapelang.equations import has_solution, solution_holds, solve
 from shapelang.errors import BadText, NoMeeting, TooLarge
-from shapelang.grammar import FIRSTS, all_rules
+from shapelang.grammar import FIRSTS, rules_for
 from shapelang.readers import parse_book, parse_definition, parse_expression, parse_pattern, parse_shape
 from shapelang.schemes import Scheme
 from shapelang.shapes import common, count_nodes, meeting, normal, put_in
@@ -153,11 +153,13 @@ class Texts(Raises, unittest.TestCase):
             self.assertEqual(tokens_of(text), tokens)
 
     def test_what_the_rules_begin_with(self):
-        rules = all_rules()
+        rules = rules_for("<book>")
 
         def firsts(step):
             return {step} if step not in rules else {first for form in rules[step] for first in firsts(form[0])}
 
+        for name in ("<shape>", "<pattern>", "<expression>"):
+            self.assertLessEqual(rules_for(name).items(), rules.items())
         self.assertEqual({name: set(found) for name, found in FIRSTS.items()},
                          {name: firsts(name) for name in rules if name != "<book>"})
 
