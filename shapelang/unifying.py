@@ -2,9 +2,9 @@
 
 Each different shape, and each part of one, is a node and has a number. A node is a variable,
 or a tuple of a Name (or "->") and the numbers of its parts, which are less than its own.
-What is found of some equations is a pair (stands, order): for each node the node that stands
-for all that equal it; and the tuples that stand for variables, each behind those that stand for
-variables within it.
+What is found of some equations is a pair (stands, order): for each variable, by the number of
+its node, the node that stands for all that equal it; and the tuples that stand for variables,
+each behind those that stand for variables within it.
 Schemes meet by operators, which may change nothing: therefore each function here changes only
 lists and dicts that it has made itself. Groups may have many thousand nodes: therefore some
 loops are written out that could be calls.
@@ -40,10 +40,10 @@ def numbered(shapes):
 
 
 def united(nodes, pairs):
-    """Return, for each node, the node that stands for all that equal it if these pairs are equal.
+    """Return, for each node, a node that equals it if these pairs are equal, and so on up to a last one.
 
-    A tuple stands for variables, the least variable for others. Return None if unlike tuples had
-    to be equal.
+    The last one is a tuple if there is one, otherwise the least variable. Return None if unlike
+    tuples had to be equal.
     """
     leaders = list(range(len(nodes)))
     waiting = list(pairs)
@@ -66,17 +66,18 @@ def united(nodes, pairs):
         elif isinstance(second, tuple) or (not isinstance(first, tuple) and second < first):
             one, other = other, one
         leaders[other] = one
-    for number in range(len(leaders)):
-        leader = leaders[number]
-        if leader != number:
-            while leaders[leader] != leader:
-                leader = leaders[leader]
-            leaders[number] = leader
     return leaders
 
 
+def last_of(leaders, number):
+    """Return the node at the end of the way from this one."""
+    while leaders[number] != number:
+        number = leaders[number]
+    return number
+
+
 def variable_masks(nodes):
-    """Return, for each node, the mask of the variables in it; each variable has a bit of its own."""
+    """Return the list of, for each node, the mask of the variables in it; each variable has a bit of its own."""
     masks = []
     bit = 1
     for node in nodes:
@@ -102,8 +103,9 @@ def ordered(nodes, masks, stands):
     owners = {}
     members = {}
     left = 0
-    for number, stand in enumerate(stands):
-        if isinstance(nodes[stand], tuple) and not isinstance(nodes[number], tuple):
+    for number in stands:
+        stand = stands[number]
+        if isinstance(nodes[stand], tuple):
             owners[masks[number]] = stand
             members[stand] = masks[number] | (members[stand] if stand in members else 0)
             left = left | masks[number]
@@ -128,21 +130,28 @@ def ordered(nodes, masks, stands):
     return order
 
 
-def solved_by(nodes, masks, pairs):
+def variable_nodes(nodes):
+    """Return the list of the numbers of the nodes that are variables."""
+    return [number for number, node in enumerate(nodes) if not isinstance(node, tuple)]
+
+
+def solved_by(nodes, variables, masks, pairs):
     """Return what is found of the equations of these pairs, None if they have no solution.
 
-    masks are those of variable_masks, for callers who ask about the same nodes many times.
+    variables and masks are those of variable_nodes and variable_masks, for callers who ask about
+    the same nodes many times.
     """
-    stands = united(nodes, pairs)
-    if stands is None:
+    leaders = united(nodes, pairs)
+    if leaders is None:
         return None
+    stands = dict([(number, last_of(leaders, number)) for number in variables])
     order = ordered(nodes, masks, stands)
     return None if order is None else (stands, order)
 
 
 def solved(nodes, pairs):
     """Return what is found of the equations of these pairs, None if they have no solution."""
-    return solved_by(nodes, variable_masks(nodes), pairs)
+    return solved_by(nodes, variable_nodes(nodes), variable_masks(nodes), pairs)
 
 
 def shape_at(nodes, values, number, levels):
@@ -164,11 +173,11 @@ def written(nodes, found, numbers):
     A shape may have 2 ** 50 nodes, but what is put into it is the same tuple wherever it is put.
     """
     stands, order = found
-    values = [nodes[stand] for stand in stands]
+    values = dict([(number, nodes[stands[number]]) for number in stands])
     members = {}
-    for number, stand in enumerate(stands):
-        if not isinstance(nodes[number], tuple):
-            members[stand] = [*members[stand], number] if stand in members else [number]
+    for number in stands:
+        stand = stands[number]
+        members[stand] = [*members[stand], number] if stand in members else [number]
     for stand in order:
         shape = shape_at(nodes, values, stand, DEPTH)
         for number in members[stand]:
