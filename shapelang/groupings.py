@@ -91,7 +91,8 @@ def make_equations(grouping, number):
     fresh = grouping.fresh[number]
     name, many, shapes = grouping.makers[grouping.layout.places[number][1]]
     parts = grouping.layout.parts[number]
-    equations = [(part, put_fresh(shape, range(many), fresh)) for part, shape in zip(parts, shapes)]
+    parameters = list(range(many))
+    equations = [(part, put_fresh(shape, parameters, fresh)) for part, shape in zip(parts, shapes)]
     return [*equations, (number, (name, *fresh))]
 
 

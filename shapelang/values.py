@@ -99,7 +99,7 @@ def make_equations(makers, value, variable, free):
         return None
     name, many, shapes = makers[value[1]]
     first = free + len(shapes)
-    fresh = range(first, first + many)
+    fresh = list(range(first, first + many))
     table = dict(enumerate(fresh))
     equations = [(free + at, with_variables(shape, table)) for at, shape in enumerate(shapes)]
     return [(variable, (name, *fresh)), *equations]

@@ -132,6 +132,25 @@ def own_containers(function):
     return made - other
 
 
+def is_iterated_call(call):
+    """Whether this calls what must be iterated on the spot."""
+    if isinstance(call.func, ast.Name):
+        return call.func.id in ("range", "zip", "enumerate", "reversed", "map")
+    return isinstance(call.func, ast.Attribute) and call.func.attr in ("items", "keys", "values")
+
+
+def is_iterating(parent, node):
+    """Whether the parent iterates over the node at once, or asks what may be asked of a range."""
+    if isinstance(parent, (ast.For, ast.comprehension)):
+        return parent.iter is node
+    if isinstance(parent, ast.Compare):
+        return isinstance(parent.ops[0], (ast.In, ast.NotIn)) and parent.comparators == [node]
+    if isinstance(parent, ast.Subscript):
+        return parent.value is node
+    iterating = "list tuple dict sorted sum any all enumerate zip min max len reversed".split()
+    return isinstance(parent, ast.Call) and isinstance(parent.func, ast.Name) and parent.func.id in iterating
+
+
 class Operators(unittest.TestCase):
     def test_what_operators_run_changes_only_what_it_made(self):
         found = run_by_operators()
@@ -266,6 +285,34 @@ class Language(unittest.TestCase):
                         self.assertNotIn(ast.unparse(node.func.value), over)
                     if isinstance(node, ast.Subscript) and isinstance(node.ctx, (ast.Store, ast.Del)):
                         self.assertNotIn(ast.unparse(node.value), over)
+
+    def test_ranges_and_the_like_are_iterated_on_the_spot_or_kept(self):
+        """L23: a call of one stands where it is iterated, or is kept in a local variable that is only iterated."""
+        for file in FILES:
+            for function in nodes(file, ast.FunctionDef):
+                whole = list(ast.walk(function))
+                parents = {id(part): node for node in whole for part in ast.iter_child_nodes(node)}
+                for node in whole:
+                    if not (isinstance(node, ast.Call) and is_iterated_call(node)):
+                        continue
+                    parent = parents[id(node)]
+                    if isinstance(parent, ast.Assign) and isinstance(parent.targets[0], ast.Name):
+                        name = parent.targets[0].id
+                        uses = [part for part in whole if isinstance(part, ast.Name) and part.id == name]
+                        self.assertEqual(len([part for part in uses if isinstance(part.ctx, ast.Store)]), 1, name)
+                        for part in uses:
+                            if isinstance(part.ctx, ast.Load):
+                                self.assertTrue(is_iterating(parents[id(part)], part), f"{file.name} {part.lineno}")
+                    else:
+                        self.assertTrue(is_iterating(parent, node), f"{file.name} {node.lineno}")
+
+    def test_the_look_at_ranges_sees_what_is_wrong(self):
+        for text, right in (("list(range(3))", True), ("f(range(3))", False), ("(1, *range(3))", False), ("[range(3)]", False),
+                            ("[x for x in range(3)]", True), ("x in range(3)", True), ("range(3) == y", False), ("set(range(3))", False)):
+            tree = ast.parse(text)
+            parents = {id(part): node for node in ast.walk(tree) for part in ast.iter_child_nodes(node)}
+            call = next(node for node in ast.walk(tree) if isinstance(node, ast.Call) and is_iterated_call(node))
+            self.assertEqual(is_iterating(parents[id(call)], call), right, text)
 
     def test_comprehensions_within_others_have_names_of_their_own(self):
         for file in FILES:
