@@ -40,3 +40,13 @@ def least_forms(family, sizes, chosen):
             name, parts = family.makers[number][chosen[number]]
             forms[number] = ("make", name, *[forms[part] for part in parts])
     return forms
+
+
+def least_keys(family, sizes, chosen):
+    """Return the dict of the keys of these forms, whose order is that of forms: (size, index of the maker, parts)."""
+    keys = dict([(number, (0,)) for number in sizes if number not in chosen])
+    for size, number in sorted([(sizes[number], number) for number in chosen]):
+        if size <= FORM:
+            _, parts = family.makers[number][chosen[number]]
+            keys[number] = (size, chosen[number], *[keys[part] for part in parts])
+    return keys

@@ -2,7 +2,7 @@
 
 from shapelang.formed import kind_of
 from shapelang.names import is_integer
-from shapelang.ways import can_be_met
+from shapelang.ways import Standing
 
 
 def is_way(value):
@@ -10,86 +10,81 @@ def is_way(value):
     return isinstance(value, tuple) and all([is_integer(item) for item in value])
 
 
-def shape_at(outset, value, known):
-    """Return the number of the data shape at a way that may be looked at, None if the value is no such way.
-
-    known are (Name, numbers of the parts) of the makers with which ways are known, by the ways.
-    """
-    if not is_way(value) or value in known:
-        return None
-    number = outset.family.first
-    if value != ():
-        if value[:-1] not in known:
-            return None
-        _, parts = known[value[:-1]]
-        if not 0 <= value[-1] < len(parts):
-            return None
-        number = parts[value[-1]]
-    return number if outset.family.is_data(number) else None
-
-
 def are_branches(value, makers):
     """Whether the value is a tuple of pairs that begin with the Names of these makers."""
     if not isinstance(value, tuple) or len(value) != len(makers):
         return False
-    if not all([isinstance(branch, tuple) and len(branch) == 2 for branch in value]):
-        return False
-    return all([branch[0] == name for branch, (name, _) in zip(value, makers)])
+    for branch, maker in zip(value, makers):
+        if not isinstance(branch, tuple) or len(branch) != 2 or branch[0] != maker[0]:
+            return False
+    return True
 
 
-def meets_some(outset, makers, known):
-    """Whether a row with these makers meets a form with the makers that are known."""
-    if not can_be_met(makers, known):
-        return False
-    return all([name in outset.names_at(number) for _, name, number in makers])
+def deciding(outset):
+    """Return the list of pairs (index, makers) of the rows that meet some form, without makers that all forms have."""
+    return [
+        (index, [maker for maker in makers if len(outset.branches_at(maker[2])) > 1])
+        for index, makers in outset.rows_with_forms()
+    ]
 
 
-def meets_all(outset, makers, known):
-    """Whether a row with these makers meets each form with the makers that are known."""
-    if not can_be_met(makers, known):
-        return False
-    # At a way that is not known, another maker that makes values would lead elsewhere.
-    left = [(name, number) for way, name, number in makers if way not in known]
-    return all([[name] == outset.names_at(number) for name, number in left])
+class Checking:
+    """The check of a tree for the rows of an outset.
 
+    Behind a road, what is left of the rows that meet some form tells which row is the first one of
+    the forms there: makers that all forms have need no look.
+    """
 
-def row_of_end(outset, value):
-    """Return the number of the row at an end, the number of all rows for none, None if the value is no end."""
-    if value == ("none",):
-        return len(outset.rows)
-    if kind_of(value) == "row" and len(value) == 2 and is_integer(value[1]) and value[1] >= 0:
-        return value[1]
-    return None
+    def __init__(self, outset):
+        self.outset = outset
+        self.standing = Standing(deciding(outset))
 
+    def is_right_end(self, value, left):
+        """Whether the value is an end to which just the right forms are led."""
+        if value == ("none",):
+            return left == () or not self.outset.has_values()
+        if kind_of(value) != "row" or len(value) != 2 or not is_integer(value[1]) or value[1] < 0:
+            return False
+        return left[:1] == ((value[1], 0),) or not self.outset.has_values()
 
-def is_right_end(outset, value, known):
-    """Whether the value is an end to which just the right forms are led; known are the makers by ways."""
-    row = row_of_end(outset, value)
-    if row is None:
-        return False
-    if not outset.has_values():
+    def makers_at(self, tree, unknown):
+        """Return the branches that a look must have, None if it may not stand here.
+
+        unknown are the numbers of the shapes at the ways that may be looked at, by the ways.
+        """
+        if len(tree) != 3 or not is_way(tree[1]) or tree[1] not in unknown:
+            return None
+        makers = self.outset.branches_at(unknown[tree[1]])
+        return makers if are_branches(tree[2], makers) else None
+
+    def unknown_parts(self, way, parts):
+        """Return the dict of those of these parts of the maker at a way that are data shapes."""
+        datas = self.outset.family.makers
+        return dict([((*way, index), part) for index, part in enumerate(parts) if part in datas])
+
+    def is_right(self, value):
+        """Whether the value is a right tree."""
+        first = self.outset.family.first
+        waiting = [(value, self.standing.start, {(): first} if self.outset.family.is_data(first) else {})]
+        while waiting:
+            tree, left, unknown = waiting.pop()
+            if kind_of(tree) != "look":
+                if not self.is_right_end(tree, left):
+                    return False
+                continue
+            makers = self.makers_at(tree, unknown)
+            if makers is None:
+                return False
+            way = tree[1]
+            bit = self.standing.bits[way] if way in self.standing.bits else 0
+            rest = {**unknown}
+            del rest[way]
+            for (name, parts), branch in zip(makers, tree[2]):
+                behind = self.standing.passed(left, bit, name) if bit else left
+                waiting.append((branch[1], behind, {**rest, **self.unknown_parts(way, parts)} if parts else rest))
         return True
-    if any([meets_some(outset, makers, known) for makers in outset.rows[:row]]):
-        return False
-    if value[0] == "none":
-        return True
-    return row < len(outset.rows) and meets_all(outset, outset.rows[row], known)
 
 
 def is_right_tree(outset, value):
     """Whether the value is a right tree for the rows."""
-    waiting = [(value, {})]
-    while waiting:
-        tree, known = waiting.pop()
-        if kind_of(tree) != "look":
-            if not is_right_end(outset, tree, dict([(way, known[way][0]) for way in known])):
-                return False
-            continue
-        number = shape_at(outset, tree[1], known) if len(tree) == 3 else None
-        if number is None:
-            return False
-        makers = outset.branches_at(number)
-        if not are_branches(tree[2], makers):
-            return False
-        waiting.extend([(branch[1], {**known, tree[1]: maker}) for branch, maker in zip(tree[2], makers)])
-    return True
+    return Checking(outset).is_right(value)

@@ -7,41 +7,61 @@ from shapelang.names import is_integer
 from shapelang.rows import first_row, rows_error
 from shapelang.treecheck import is_right_tree
 from shapelang.values import is_form
-from shapelang.ways import Outset, can_be_met, first_left
+from shapelang.ways import Outset, Standing
 
 NONE = ("none",)
 
 
 class Planting:
-    """A tree that is being made; many is how many looks and ends it has so far."""
+    """A tree that is being made; many is how many looks and ends it has so far.
+
+    known are the trees behind what is left of the rows, with the numbers of their looks and ends:
+    the same may be left behind many roads.
+    """
 
     def __init__(self, outset):
         self.outset = outset
+        self.standing = Standing(list(enumerate(outset.rows)) if outset.has_values() else [])
         self.many = 0
+        self.known = {}
 
-    def tree_at(self, known):
-        """Return the tree behind a road on which these ways are known, each with a maker."""
-        self.many = self.many + 1
+    def add(self, many):
+        """Note that the tree has so many looks and ends more."""
+        self.many = self.many + many
         if self.many > TREE:
             raise TooLarge(TREE)
-        if not self.outset.has_values():
-            return NONE
-        for index, makers in enumerate(self.outset.rows):
-            if can_be_met(makers, known):
-                left = first_left(makers, known)
-                return ("row", index) if left is None else self.look_at(known, left)
-        return NONE
 
-    def look_at(self, known, maker):
-        """Return the look at the way of a maker of a row."""
-        way, _, number = maker
-        names = self.outset.names_at(number)
-        return ("look", way, tuple([(name, self.tree_at({**known, way: name})) for name in names]))
+    def tree_at(self, left):
+        """Return the tree behind a road on which so much is left of the rows."""
+        if left in self.known:
+            tree, many = self.known[left]
+            self.add(many)
+            return tree
+        before = self.many
+        self.add(1)
+        tree = NONE
+        if left != ():
+            index, mask = left[0]
+            tree = ("row", index) if mask == 0 else self.look_at(left, mask & -mask)
+        self.known[left] = (tree, self.many - before)
+        return tree
+
+    def look_at(self, left, bit):
+        """Return the look at the way of this bit, which the first row has."""
+        names = self.outset.names_at(self.standing.shapes[left[0][0]][bit])
+        branches = [(name, self.tree_at(self.standing.passed(left, bit, name))) for name in names]
+        return ("look", self.standing.ways[bit], tuple(branches))
+
+
+def planted(outset):
+    """Return the tree of the rows of an outset."""
+    planting = Planting(outset)
+    return planting.tree_at(planting.standing.start)
 
 
 def tree_of(datas, shape, rows):
     """Return the tree of the rows."""
-    return Planting(Outset(Family(datas, shape), rows)).tree_at({})
+    return planted(Outset(Family(datas, shape), rows))
 
 
 def tree_holds(datas, shape, rows, value):
@@ -70,8 +90,9 @@ class Tree:
         if error is not None:
             raise BadRows(error)
         self._shown = tree_of(datas, shape, rows)
-        self._ends = [end for end, _ in ends_of(self._shown)]
-        self._most = max([looks for _, looks in ends_of(self._shown)])
+        ends = ends_of(self._shown)
+        self._ends = [end for end, _ in ends]
+        self._most = max([looks for _, looks in ends])
         self._datas = datas
         self._shape = shape
         self._rows = rows

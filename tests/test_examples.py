@@ -1,4 +1,4 @@
-"""The examples of the document, in examples.txt, for the modules that are there."""
+"""The examples of the document, in examples.txt."""
 
 import unittest
 from pathlib import Path
@@ -35,7 +35,7 @@ def result_of(lines):
 
 class Examples(unittest.TestCase):
     def test_each_example(self):
-        self.assertGreater(len(EXAMPLES), 30)
+        self.assertGreater(len(EXAMPLES), 70)
         for example in EXAMPLES:
             lines = [line[4:] for line in example if line.startswith(">>> ")]
             with self.subTest(lines[-1]):

@@ -22,6 +22,14 @@ INTERFACE = {
     "counting": "count_forms form_at index_of each_form",
     "rows": "rows_error meets first_row bound_by",
     "trees": "tree_of tree_holds Tree",
+    "missing": "missing is_missing idle_rows witness count_met",
+    "judging": "matches_of",
+    "books": "book_error verdicts uses_of changed anew",
+    "running": "run run_word trace each_step",
+    "codes": "code_error compiled run_code room_of",
+    "descents": "calls_of joined find_descent descent_holds ends",
+    "sessions": "Session StrictSession LoggedSession LoggedStrictSession",
+    "consoles": "Console",
     "datas": "is_known makers_of parts_of least_form empty_paper empty_holds",
     "readers": "parse_shape parse_pattern parse_expression parse_data parse_definition parse_book",
     "writers": "shape_text pattern_text expression_text data_text definition_text book_text",
@@ -29,6 +37,12 @@ INTERFACE = {
 METHODS = {
     "Scheme": "__init__ shape read __call__ __contains__ __or__ __and__ __len__ __eq__ __str__",
     "Tree": "__init__ shown __call__ __contains__ __len__ __eq__ __str__",
+    "Session": "__init__ read is_edit define change remove undo run version book inferred state edits history __call__ "
+               "__getitem__ __contains__ __iter__ __len__ __eq__ __str__",
+    "StrictSession": "__init__",
+    "LoggedSession": "__init__ log",
+    "LoggedStrictSession": "__init__",
+    "Console": "__init__ execute __call__",
 }
 BUILTINS = set("""len range enumerate zip min max sum abs sorted reversed int str bool bytes list tuple dict set frozenset
 isinstance ord repr any all divmod iter next map Exception ValueError TypeError KeyError IndexError LookupError
@@ -42,7 +56,8 @@ namedtuple NamedTuple TypedDict TYPE_CHECKING abstractmethod metaclass Meta""".s
 BUILTIN_METHODS = set("""append clear copy count endswith extend find get index insert isalnum isalpha isdigit islower
 isspace isupper items join keys ljust lower lstrip partition pop remove replace reverse rfind rjust rpartition rsplit
 rstrip setdefault split splitlines startswith strip update upper values zfill bit_length isascii""".split())
-DUNDERS = set("""__init__ __eq__ __repr__ __str__ __len__ __call__ __iter__ __contains__ __or__ __and__""".split())
+DUNDERS = set("""__init__ __eq__ __repr__ __str__ __len__ __call__ __iter__ __contains__ __or__ __and__
+__getitem__""".split())
 PURE_METHODS = DUNDERS - {"__init__", "__call__"}
 CHANGING = set("append clear extend insert pop remove reverse setdefault update".split())
 STATEMENTS = (ast.FunctionDef, ast.ClassDef, ast.Assign, ast.AugAssign, ast.If, ast.While, ast.For, ast.Return, ast.Break,
@@ -363,6 +378,19 @@ class Language(unittest.TestCase):
                 for part in node.args:
                     if isinstance(part, ast.Starred):
                         self.assertIsInstance(part.value, (ast.Name, ast.Attribute))
+
+    def test_methods_are_called_where_they_stand(self):
+        methods, stored = set(), set()
+        for file in FILES:
+            for node in nodes(file, ast.ClassDef):
+                methods |= {part.name for part in node.body if isinstance(part, ast.FunctionDef) and not is_property(part)}
+            stored |= {node.attr for node in nodes(file, ast.Attribute) if isinstance(node.ctx, ast.Store)}
+        self.assertEqual(methods & stored, set())
+        for file in FILES:
+            called = [node.func for node in nodes(file, ast.Call)]
+            for node in nodes(file, ast.Attribute):
+                if node.attr in methods and node not in called:
+                    self.fail(f"{file.name} {node.lineno}: {node.attr}")
 
     def test_sets_stand_in_sorted_alone(self):
         for file in FILES:
