@@ -29,7 +29,7 @@ TEXTS = (
     "fun x -> fun y -> x", "Both id (Both 3 pick)", "let x = 1 in let x = x + 1 in let f = fun y -> x + y in let x = 100 in f x",
     "(fun f -> f (f 3)) (fun x -> x * 2)", "match Both 1 (Both 2 3) with | Both x (Both y z) -> x * 100 + y * 10 + z end",
     "match 1 with | _ -> 2 | x -> let f = fun y -> x in f 1 end", "1 + (match all with | Cons x _ -> x | y -> 7 | z -> len z end) * 2",
-    "(match Both 1 2 with | Both 3 _ -> 0 end)", "let a = count 3 in match a with | Cons _ (Cons _ (Cons x Nil)) -> x | _ -> 0 end",
+    "match Both 1 2 with | Both _ x -> x end", "let a = count 3 in match a with | Cons _ (Cons _ (Cons x Nil)) -> x | _ -> 0 end",
     "(fun x -> fun y -> fun z -> x - y - z) 10 2 3", "let k = pick one in k (count 4)", "Cons (fun x -> x) (Cons id Nil)",
 )
 
@@ -47,14 +47,9 @@ def accepted(expression):
 
 def some_expressions(source, many):
     """The texts above, and so many random expressions, all accepted."""
-    found = [expression for expression in map(parse_some, TEXTS) if expression is not None]
-    while len(found) < many + len(TEXTS) - 1:
+    found = [parse_expression(text) for text in TEXTS]
+    while len(found) < many + len(TEXTS):
         expression = random_expression(source, source.randrange(2, 6), WORDS)
         if len(repr(expression)) > 60 and accepted(expression):
             found.append(expression)
     return found
-
-
-def parse_some(text):
-    """The expression of a text, None for one that is no text of the language."""
-    return None if "Both 3 _" in text else parse_expression(text)
