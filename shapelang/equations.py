@@ -1,9 +1,10 @@
 """Groups of equations between shapes, and their solutions."""
 
+from shapelang.binding import LONG, bound, deep_variables, members_of_links, order_of
 from shapelang.bounds import NODES
 from shapelang.errors import NoSolution, TooLarge
 from shapelang.names import is_integer
-from shapelang.shapes import is_formed
+from shapelang.shapes import check_values, is_formed, written_values
 from shapelang.sizes import is_small
 from shapelang.unifying import numbered, solved, written
 
@@ -33,12 +34,15 @@ def variable_numbers(nodes):
 
 def has_solution(groups):
     """Return whether all groups together have a solution."""
-    nodes, pairs = numbered_groups(groups)
-    return solved(nodes, all_pairs(pairs)) is not None
+    found = bound([equation for group in groups for equation in group])
+    if found == LONG:
+        nodes, pairs = numbered_groups(groups)
+        return solved(nodes, all_pairs(pairs)) is not None
+    return found is not None and order_of(*found) is not None
 
 
-def solve(groups):
-    """Return the plain solution of all groups together."""
+def long_solution(groups):
+    """Return what solve does, by numbers of nodes."""
     nodes, pairs = numbered_groups(groups)
     found = solved(nodes, all_pairs(pairs))
     if found is None:
@@ -50,6 +54,23 @@ def solve(groups):
         if not is_small(shape):
             raise TooLarge(NODES)
     return tuple(list(zip(variables, shapes)))
+
+
+def solve(groups):
+    """Return the plain solution of all groups together."""
+    equations = [equation for group in groups for equation in group]
+    found = bound(equations)
+    if found == LONG:
+        return long_solution(groups)
+    order = None if found is None else order_of(*found)
+    if order is None:
+        raise NoSolution()
+    links, values = found
+    members = members_of_links(links)
+    check_values(values, members, order)
+    table = written_values(values, members, order)
+    variables = sorted(set(deep_variables([side for equation in equations for side in equation])))
+    return tuple([(variable, table[variable] if variable in table else variable) for variable in variables])
 
 
 def is_assignment(value, variables):

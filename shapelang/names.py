@@ -5,6 +5,7 @@ from shapelang.bounds import VARIABLES
 SMALL = "abcdefghijklmnopqrstuvwxyz"
 CAPITAL = "ABCDEFGHIJKLMNOPQRSTUVWXYZ"
 DIGITS = "0123456789"
+LETTERS_AND_DIGITS = "ABCDEFGHIJKLMNOPQRSTUVWXYZabcdefghijklmnopqrstuvwxyz0123456789"
 KEYWORDS = ("fun", "let", "in", "match", "with", "end", "as", "data", "is", "hole")
 # A Name and a word have at most so many signs, a number at most so many digits.
 LONGEST = 8
@@ -19,14 +20,20 @@ def is_integer(value):
 
 def consists_of(text, signs):
     """Whether each sign of the text is one of these."""
-    return all([sign in signs for sign in text])
+    for sign in text:
+        if sign not in signs:
+            return False
+    return True
 
 
 def is_name(value):
     """Whether the value is a Name."""
-    if not isinstance(value, str) or not 1 <= len(value) <= LONGEST:
+    if not isinstance(value, str) or not 1 <= len(value) <= LONGEST or value[0] not in CAPITAL:
         return False
-    return value[0] in CAPITAL and consists_of(value, SMALL + CAPITAL + DIGITS)
+    for sign in value:
+        if sign not in LETTERS_AND_DIGITS:
+            return False
+    return True
 
 
 def is_word(value):

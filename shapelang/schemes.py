@@ -2,19 +2,30 @@
 
 from shapelang.errors import BadCount, BadShape, NoMeeting
 from shapelang.readers import parse_shape
-from shapelang.shapes import common, instance_by, is_shape, meeting, put_in, renamed, variables_of
+from shapelang.shapes import is_instance, is_shape, meeting, pattern_of, put_in, renamed, variables_of
 from shapelang.writers import shape_text
+
+
+class Normal:
+    """A shape in normal form that needs no look, and the tuple of its variables."""
+
+    def __init__(self, whole, variables):
+        self.whole = whole
+        self.variables = variables
 
 
 class Scheme:
     """All the shapes that come from one shape by replacing its variables."""
 
     def __init__(self, shape):
-        if not is_shape(shape):
+        if isinstance(shape, Normal):
+            self._shape = shape.whole
+            self._variables = shape.variables
+        elif is_shape(shape):
+            self._variables = variables_of(shape)
+            self._shape = renamed(shape, self._variables)
+        else:
             raise BadShape(shape)
-        variables = variables_of(shape)
-        self._shape = renamed(shape, variables)
-        self._variables = tuple(range(len(variables)))
 
     @property
     def shape(self):
@@ -38,16 +49,17 @@ class Scheme:
         return put_in(self._shape, *shapes)
 
     def __contains__(self, shape):
-        return is_shape(shape) and instance_by(self._shape, shape) is not None
+        return is_instance(self._shape, shape)
 
     def __or__(self, other):
-        return Scheme(common(self._shape, other.shape))
+        shape, many = pattern_of(self._shape, other.shape)
+        return Scheme(Normal(shape, tuple(range(many))))
 
     def __and__(self, other):
         shape = meeting(self._shape, other.shape)
         if shape is None:
             raise NoMeeting()
-        return Scheme(shape)
+        return Scheme(Normal(shape, variables_of(shape)))
 
     def __len__(self):
         return len(self._variables)

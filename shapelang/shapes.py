@@ -4,10 +4,11 @@ Operators of schemes call these functions, and operators may change nothing: the
 function here changes only lists and dicts that it has made itself.
 """
 
-from shapelang.bounds import NODES, VARIABLES
+from shapelang.binding import LONG, bound, members_of_links, order_of
+from shapelang.bounds import DEPTH, NODES, VARIABLES
 from shapelang.errors import TooLarge
 from shapelang.names import is_integer, is_name
-from shapelang.sizes import is_small, parts_of_all, small_nodes
+from shapelang.sizes import TOO_MANY, is_small, parts_of_all
 from shapelang.unifying import numbered, solved, written
 
 # The most parts that a Name may have behind it.
@@ -17,22 +18,26 @@ APART = 1000000
 
 
 def is_front(name, many):
-    """Whether a shape may begin with this text and have so many items."""
+    """Whether a shape may begin with this value and have so many items."""
     if name == "->":
         return many == 3
     return many <= MOST_PARTS + 1 and is_name(name)
 
 
+def is_variable(value):
+    """Whether the value is a variable."""
+    return is_integer(value) and 0 <= value <= VARIABLES
+
+
 def are_formed(values):
     """Whether each of these values is a variable, or may be a shape by its own items."""
-    tuples = [value for value in values if isinstance(value, tuple)]
-    if () in tuples or not all([isinstance(value[0], str) for value in tuples]):
-        return False
-    if not all([is_integer(value) and 0 <= value <= VARIABLES for value in values if not isinstance(value, tuple)]):
-        return False
-    # Most tuples begin in the same few ways: each way is looked at once.
-    fronts = dict([((value[0], len(value)), True) for value in tuples])
-    return all([is_front(name, many) for name, many in fronts])
+    for value in values:
+        if isinstance(value, tuple):
+            if len(value) == 0 or not is_front(value[0], len(value)):
+                return False
+        elif not is_variable(value):
+            return False
+    return True
 
 
 def is_formed(value):
@@ -45,10 +50,27 @@ def is_formed(value):
     return True
 
 
+def formed_nodes(value, levels):
+    """Return the number of the nodes of a shape, more than NODES if the value is none or has too many levels."""
+    if levels == 0 or not isinstance(value, tuple):
+        return 1 if levels > 0 and is_variable(value) else TOO_MANY
+    if len(value) == 0 or not is_front(value[0], len(value)):
+        return TOO_MANY
+    many = 1
+    for part in value[1:]:
+        # Most parts are variables: a call for each of them would take longer.
+        if isinstance(part, int) and levels > 1 and 0 <= part <= VARIABLES and not isinstance(part, bool):
+            many += 1
+        else:
+            many = many + formed_nodes(part, levels - 1)
+        if many > NODES:
+            return TOO_MANY
+    return many
+
+
 def is_shape(value):
     """Whether the value is a shape."""
-    nodes = small_nodes(value)
-    return nodes is not None and are_formed(nodes)
+    return formed_nodes(value, DEPTH) <= NODES
 
 
 def variables_of(shape):
@@ -76,11 +98,15 @@ def with_variables(shape, table):
     if not isinstance(shape, tuple):
         return table[shape] if shape in table else shape
     # Most parts are variables or have no parts: a call for each of them would take longer.
-    return (shape[0], *[
-        with_variables(part, table) if isinstance(part, tuple) and len(part) > 1 else
-        table[part] if part in table else part
-        for part in shape[1:]
-    ])
+    items = [shape[0]]
+    for part in shape[1:]:
+        if not isinstance(part, tuple):
+            items.append(table[part] if part in table else part)
+        elif len(part) > 1:
+            items.append(with_variables(part, table))
+        else:
+            items.append(part)
+    return tuple(items)
 
 
 def put_in(shape, *shapes):
@@ -95,7 +121,7 @@ def renamed(shape, variables):
     """Return the shape, whose variables are these in this order, with the variables 0, 1, 2 .. in their places."""
     if variables == tuple(range(len(variables))):
         return shape
-    return with_variables(shape, dict([(variable, number) for number, variable in enumerate(variables)]))
+    return with_variables(shape, {variable: number for number, variable in enumerate(variables)})
 
 
 def normal(shape):
@@ -110,21 +136,42 @@ def same_front(one, other):
     return one[0] == other[0] and len(one) == len(other)
 
 
-def instance_by(general, special):
-    """Return the tuple of what the variables of general are in special, None if it is no instance."""
+def parts_at_variables(general, special):
+    """Return the dict of what the variables of general are in special, None if it is no instance.
+
+    special may be any value: what is found there need not be a shape.
+    """
     found = {}
-    waiting = [(general, special)]
-    while waiting:
-        one, other = waiting.pop()
+    ones = [general]
+    others = [special]
+    while ones:
+        one = ones.pop()
+        other = others.pop()
         if isinstance(one, tuple):
-            if not same_front(one, other):
+            if not isinstance(other, tuple) or len(one) != len(other) or one[0] != other[0]:
                 return None
-            waiting.extend(list(zip(one[1:], other[1:])))
+            if len(one) > 1:
+                ones.extend(one[1:])
+                others.extend(other[1:])
         elif one not in found:
             found[one] = other
         elif found[one] != other:
             return None
+    return found
+
+
+def instance_by(general, special):
+    """Return the tuple of what the variables of general are in special, None if it is no instance."""
+    found = parts_at_variables(general, special)
+    if found is None:
+        return None
     return tuple([found[variable] for variable in variables_of(general)])
+
+
+def is_instance(general, value):
+    """Whether any value is a shape that comes from general by replacing variables."""
+    # Most shapes are told apart by their first items: those need no look at the whole value.
+    return parts_at_variables(general, value) is not None and is_shape(value)
 
 
 def shape_by(fronts, leaves):
@@ -144,27 +191,37 @@ def shape_by(fronts, leaves):
     return done[0]
 
 
-def common(one, other):
-    """Return the common pattern of two shapes in normal form."""
+def pattern_of(one, other):
+    """Return the common pattern of two shapes in normal form, and the number of its variables."""
     fronts = []
     pairs = []
-    waiting = [(one, other)]
+    ones = [one]
+    others = [other]
     # From right to left, and each front ahead of its parts: the other way round it is built.
-    while waiting:
-        left, right = waiting.pop()
-        if same_front(left, right):
+    while ones:
+        left = ones.pop()
+        right = others.pop()
+        if isinstance(left, tuple) and isinstance(right, tuple) and left[0] == right[0] and len(left) == len(right):
             fronts.append((left[0], len(left) - 1))
-            waiting.extend(list(zip(left[1:], right[1:])))
+            ones.extend(left[1:])
+            others.extend(right[1:])
         else:
             fronts.append(None)
             pairs.append((left, right))
-    _, numbers = numbered([part for pair in pairs[::-1] for part in pair])
-    numbers_of_pairs = list(zip(numbers[::2], numbers[1::2]))
     # The same variable stands wherever the same two parts meet.
-    variables = {}
-    for pair in numbers_of_pairs:
-        variables[pair] = variables[pair] if pair in variables else len(variables)
-    return shape_by(fronts[::-1], [variables[pair] for pair in numbers_of_pairs])
+    different = []
+    leaves = []
+    for pair in pairs[::-1]:
+        if pair not in different:
+            different.append(pair)
+        leaves.append(different.index(pair))
+    return shape_by(fronts[::-1], leaves), len(different)
+
+
+def common(one, other):
+    """Return the common pattern of two shapes in normal form."""
+    shape, _ = pattern_of(one, other)
+    return shape
 
 
 def apart(shape):
@@ -174,13 +231,81 @@ def apart(shape):
     return (shape[0], *[apart(part) if isinstance(part, tuple) else part + APART for part in shape[1:]])
 
 
-def meeting(one, other):
-    """Return the meeting of two shapes in normal form, None if there is none."""
-    nodes, numbers = numbered((one, apart(other)))
+def size_of(shape, sizes, most):
+    """Return the nodes and levels of a shape with shapes of these sizes, by variables, in the place of variables.
+
+    If the shape itself has more than the most levels, these are more nodes than it may have.
+    """
+    if not isinstance(shape, tuple):
+        return sizes[shape] if shape in sizes else (1, 1)
+    if most == 0:
+        return TOO_MANY, 1
+    many = 1
+    deepest = 0
+    for part in shape[1:]:
+        if isinstance(part, tuple):
+            nodes, levels = size_of(part, sizes, most - 1)
+        else:
+            nodes, levels = sizes[part] if part in sizes else (1, 1)
+        many = many + nodes
+        deepest = levels if levels > deepest else deepest
+    return many, deepest + 1
+
+
+def check_size(size):
+    """Raise TooLarge if these are too many nodes or levels."""
+    if size[0] > NODES or size[1] > DEPTH:
+        raise TooLarge(NODES)
+    return size
+
+
+def check_values(values, members, order):
+    """Return the dict of the sizes of the shapes of the variables with values; raise TooLarge if one is too large."""
+    sizes = {}
+    for variable in order:
+        size = check_size(size_of(values[variable], sizes, DEPTH))
+        sizes[variable] = size
+        if variable in members:
+            for member in members[variable]:
+                sizes[member] = size
+    return sizes
+
+
+def written_values(values, members, order):
+    """Return the dict of the shapes of the variables with values or links, none of which is too large."""
+    table = dict([(variable, stand) for stand in members for variable in members[stand]])
+    for variable in order:
+        shape = with_variables(values[variable], table)
+        table[variable] = shape
+        if variable in members:
+            for member in members[variable]:
+                table[member] = shape
+    return table
+
+
+def long_meeting(one, other):
+    """Return the meeting of two shapes, whose variables are different, not in normal form, None if there is none."""
+    nodes, numbers = numbered((one, other))
     found = solved(nodes, [(numbers[0], numbers[1])])
     if found is None:
         return None
     shape = written(nodes, found, [numbers[0]])[0]
     if not is_small(shape):
         raise TooLarge(NODES)
-    return normal(shape)
+    return shape
+
+
+def meeting(one, other):
+    """Return the meeting of two shapes in normal form, None if there is none."""
+    second = apart(other)
+    found = bound([(one, second)])
+    if found == LONG:
+        shape = long_meeting(one, second)
+        return None if shape is None else normal(shape)
+    order = None if found is None else order_of(*found)
+    if order is None:
+        return None
+    links, values = found
+    members = members_of_links(links)
+    check_size(size_of(one, check_values(values, members, order), DEPTH))
+    return normal(with_variables(one, written_values(values, members, order)))

@@ -1,6 +1,12 @@
-"""How large shapes are."""
+"""How large shapes are.
+
+Operators of schemes call these functions, and operators may change nothing: so do they.
+"""
 
 from shapelang.bounds import DEPTH, NODES
+
+# What is counted where there are too many levels: more nodes than a shape may have.
+TOO_MANY = 1000
 
 
 def parts_of_all(values):
@@ -8,20 +14,21 @@ def parts_of_all(values):
     return [part for value in values if isinstance(value, tuple) for part in value[1:]]
 
 
-def small_nodes(value):
-    """Return the list of what would be the nodes of the value, None if these are too many nodes or levels."""
-    nodes = []
-    level = [value]
-    for _ in range(DEPTH):
-        nodes.extend(level)
-        if len(nodes) > NODES:
-            return None
-        level = parts_of_all(level)
-        if not level:
-            return nodes
-    return None
+def nodes_within(shape, levels):
+    """Return the number of the nodes of a shape, more than NODES if there are so many, or more levels."""
+    if not isinstance(shape, tuple):
+        return 1
+    if levels == 1 and len(shape) > 1:
+        return TOO_MANY
+    many = len(shape)
+    for part in shape[1:]:
+        if isinstance(part, tuple) and len(part) > 1:
+            many = many + nodes_within(part, levels - 1) - 1
+            if many > NODES:
+                return TOO_MANY
+    return many
 
 
 def is_small(shape):
     """Whether a shape has no more nodes and levels than a shape that is passed may have."""
-    return small_nodes(shape) is not None
+    return nodes_within(shape, DEPTH) <= NODES
