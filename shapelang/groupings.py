@@ -17,40 +17,39 @@ def put_fresh(shape, variables, fresh):
 
 
 class Grouping:
-    """An expression that fits, with the fresh variables of its places."""
+    """An expression that fits; starts are the first fresh variables of its places, and the one behind all."""
 
     def __init__(self, datas, known, expression, own):
         self.layout = Layout(expression)
         self.makers = maker_table(datas)
         self.known = dict(known)
         self.own = own
-        self.fresh = []
-        start = len(self.layout.places)
-        for number in range(start):
-            end = start + self.count_fresh(number)
-            self.fresh.append(tuple(range(start, end)))
-            start = end
-        if start > VARIABLES + 1:
+        self.starts = [len(self.layout.places)]
+        for number, place in enumerate(self.layout.places):
+            self.starts.append(self.starts[number] + self.count_fresh(number, place))
+        if self.starts[-1] > VARIABLES + 1:
             raise TooLarge(VARIABLES)
+
+    def count_fresh(self, number, place):
+        """Return how many fresh variables a place has."""
+        if place[0] == "make":
+            return self.makers[place[1]][1]
+        if place[0] == "word" and self.is_free(number):
+            return len(variables_of(self.known[place[1]]))
+        return 1 if place[0] == "fun" else 0
+
+    def fresh(self, number):
+        """Return the list of the fresh variables of a place."""
+        return list(range(self.starts[number], self.starts[number + 1]))
 
     def is_free(self, number):
         """Whether the place is a free word of known."""
-        place = self.layout.places[number]
-        return self.binder(number) == ("free",) and place[1] != self.own
+        return self.binder(number) == ("free",) and self.layout.places[number][1] != self.own
 
     def binder(self, number):
         """Return the binder of a word in an expression, None for other places."""
         binders = self.layout.binders
         return binders[number] if number in binders else None
-
-    def count_fresh(self, number):
-        """Return how many fresh variables a place has."""
-        place = self.layout.places[number]
-        if place[0] == "fun":
-            return 1
-        if place[0] == "make":
-            return self.makers[place[1]][1]
-        return len(variables_of(self.known[place[1]])) if self.is_free(number) else 0
 
 
 def number_equations(grouping, number):
@@ -69,7 +68,7 @@ def word_equations(grouping, number):
     if binder is None:
         return []
     if binder[0] == "fun":
-        return [(number, grouping.fresh[binder[1]][0])]
+        return [(number, grouping.starts[binder[1]])]
     if binder[0] == "row":
         return [(number, binder[1])]
     if binder[0] == "let":
@@ -77,7 +76,7 @@ def word_equations(grouping, number):
     if not grouping.is_free(number):
         return [(number, 0)]
     shape = grouping.known[grouping.layout.places[number][1]]
-    return [(number, put_fresh(shape, variables_of(shape), grouping.fresh[number]))]
+    return [(number, put_fresh(shape, variables_of(shape), grouping.fresh(number)))]
 
 
 def op_equations(grouping, number):
@@ -88,7 +87,7 @@ def op_equations(grouping, number):
 
 def make_equations(grouping, number):
     """Return the equations of a make."""
-    fresh = grouping.fresh[number]
+    fresh = grouping.fresh(number)
     name, many, shapes = grouping.makers[grouping.layout.places[number][1]]
     parts = grouping.layout.parts[number]
     parameters = list(range(many))
@@ -98,7 +97,7 @@ def make_equations(grouping, number):
 
 def fun_equations(grouping, number):
     """Return the equations of a fun."""
-    return [(number, ("->", grouping.fresh[number][0], grouping.layout.parts[number][0]))]
+    return [(number, ("->", grouping.starts[number], grouping.layout.parts[number][0]))]
 
 
 def call_equations(grouping, number):

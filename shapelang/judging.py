@@ -1,7 +1,7 @@
 """What the matches within an expression leave out."""
 
 from shapelang.families import Family
-from shapelang.inferring import groups_of, small_shapes
+from shapelang.inferring import small_shapes
 from shapelang.missing import first_missing, idle_of
 from shapelang.places import places_of
 from shapelang.trees import planted
@@ -18,7 +18,7 @@ def judged(datas, shape, match):
 
 def matches_of(datas, known, expression, *, own=None):
     """Return the tuple of (place, first missing outline or None, idle rows) of all matches of the expression."""
-    shapes = small_shapes(groups_of(datas, known, expression, own=own))
+    shapes = small_shapes(datas, known, expression, own)
     found = []
     for place, part in enumerate(places_of(expression)):
         if part[0] == "match":

@@ -4,7 +4,7 @@ from shapelang.bounds import DATAS, PLACES
 from shapelang.errors import NoPlace, TooLarge
 from shapelang.faults import expression_fault
 from shapelang.grammar import MOST_MAKERS
-from shapelang.layouts import Layout
+from shapelang.layouts import binder_at
 from shapelang.makers import KNOWN_NAMES, counts_of, has_known_names, maker_table
 from shapelang.names import is_integer, is_name
 from shapelang.places import has_room, parts_of_place, places_of
@@ -136,7 +136,7 @@ def replaced(expression, place, part):
 
 def binder_of(expression, place):
     """Return what binds the word at a place, None if the place is no word in an expression."""
-    if not is_place(expression, place):
+    found = binder_at(expression, place) if is_integer(place) and place >= 0 else ()
+    if found == ():
         raise NoPlace(place)
-    binders = Layout(expression).binders
-    return binders[place] if place in binders else None
+    return found

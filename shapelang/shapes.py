@@ -31,23 +31,34 @@ def is_variable(value):
 
 def are_formed(values):
     """Whether each of these values is a variable, or may be a shape by its own items."""
+    # Most tuples begin in the same few ways: each way is looked at once.
+    fronts = {}
     for value in values:
-        if isinstance(value, tuple):
-            if len(value) == 0 or not is_front(value[0], len(value)):
+        if not isinstance(value, tuple):
+            if not is_variable(value):
                 return False
-        elif not is_variable(value):
+        elif len(value) == 0 or not isinstance(value[0], str):
             return False
+        elif (value[0], len(value)) not in fronts:
+            if not is_front(value[0], len(value)):
+                return False
+            fronts[(value[0], len(value))] = True
     return True
 
 
-def is_formed(value):
-    """Whether the value is a shape, of whatever size."""
-    level = [value]
+def are_shapes(values):
+    """Whether each of these values is a shape, of whatever size."""
+    level = list(values)
     while level:
         if not are_formed(level):
             return False
         level = parts_of_all(level)
     return True
+
+
+def is_formed(value):
+    """Whether the value is a shape, of whatever size."""
+    return are_shapes([value])
 
 
 def formed_nodes(value, levels):
