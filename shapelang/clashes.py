@@ -34,10 +34,7 @@ def is_repair(groups, value):
 
 def find_clash(groups):
     """Return the clash that is left from the last group to the first one, None if there is none."""
-    looks = Looks(groups)
-    if looks.fit(looks.every):
-        return None
-    return members_of(looks.lessened(looks.every))
+    return Looks(groups).first_clash()
 
 
 def find_repair(groups):

@@ -7,20 +7,26 @@ ANY = ("any",)
 
 def size_of_maker(sizes, parts):
     """Return the least size of a form of a maker with these parts, None if a part has no form that is known."""
-    if not all([part in sizes for part in parts]):
-        return None
-    return 1 + sum([sizes[part] for part in parts])
+    size = 1
+    for part in parts:
+        if part not in sizes:
+            return None
+        size = size + sizes[part]
+    return size
 
 
 def least_makers(family):
     """Return the dicts of the least sizes of the shapes that have forms, and of the makers of the least forms."""
-    sizes = dict([(number, 0) for number in family.met if not family.is_data(number)])
+    makers = family.makers
+    sizes = dict([(number, 0) for number in family.met if number not in makers])
     chosen = {}
     found = True
+    # What is met later is often a part of what is met earlier: so fewer rounds are needed.
+    order = list(makers)[::-1]
     while found:
         found = False
-        for number in family.makers:
-            for index, (_, parts) in enumerate(family.makers[number]):
+        for number in order:
+            for index, (_, parts) in enumerate(makers[number]):
                 size = size_of_maker(sizes, parts)
                 if size is not None and (number not in sizes or (size, index) < (sizes[number], chosen[number])):
                     sizes[number] = size

@@ -5,7 +5,7 @@ from shapelang.choosing import choice
 from shapelang.equations import numbered_groups
 from shapelang.errors import TooMany
 from shapelang.masks import lies_within, mask_of, members_of, without
-from shapelang.unifying import solved_by, variable_masks, variable_nodes
+from shapelang.unifying import order_by, solved_by, united_in_turn, variable_masks, variable_nodes
 
 
 class Looks:
@@ -28,6 +28,40 @@ class Looks:
             return True
         pairs = [pair for member, pairs in enumerate(self.pairs) if mask >> member & 1 for pair in pairs]
         return solved_by(self.nodes, self.variables, self.masks, pairs) is not None
+
+    def first_lost(self, kept, most):
+        """Return the least number of the first groups that have no solution together with those that are kept.
+
+        Return None if even so many, the most, have one.
+        """
+        groups = [[pair for member in kept for pair in self.pairs[member]], *self.pairs[:most]]
+        leaders, done = united_in_turn(self.nodes, groups)
+        if done <= most:
+            # Of the group with unlike tuples, nothing is to be left.
+            leaders, _ = united_in_turn(self.nodes, groups[:done])
+        if order_by(self.nodes, self.variables, self.masks, leaders) is not None:
+            return done if done <= most else None
+        inside = mask_of(kept)
+        low, high = 0, max(done - 1, 0)
+        while low < high:
+            middle = (low + high) // 2
+            if self.fit(inside | mask_of(list(range(middle)))):
+                low = middle + 1
+            else:
+                high = middle
+        return low
+
+    def first_clash(self):
+        """Return the ascending tuple of the groups that are left from the last one to the first one, None for none."""
+        kept = []
+        lost = self.first_lost(kept, len(self.pairs))
+        if lost is None:
+            return None
+        while lost > 0:
+            # Without this one the first groups have a solution; all between them and the kept ones are left out.
+            kept.append(lost - 1)
+            lost = self.first_lost(kept, lost - 1)
+        return tuple(kept[::-1])
 
     def lessened(self, mask):
         """Return the clash that is left of a mask, from the last group to the first one."""

@@ -13,12 +13,12 @@ def counts_of(datas):
 
 def data_table(datas):
     """Return the dict of the makers of each data by its Name."""
-    return dict([(name, makers) for name, _, makers in (BOOL, *datas)])
+    return {name: makers for name, _, makers in (BOOL, *datas)}
 
 
 def maker_table(datas):
     """Return the dict of (Name of the data, number of its parameters, parts) by the Names of makers."""
-    return dict([(maker[0], (name, many, maker[1:])) for name, many, makers in (BOOL, *datas) for maker in makers])
+    return {maker[0]: (name, many, maker[1:]) for name, many, makers in (BOOL, *datas) for maker in makers}
 
 
 def has_known_names(shape, counts):

@@ -54,7 +54,7 @@ def is_missing(datas, shape, rows, value):
     makers = outline_makers(outset.family, value)
     if makers is None or not outset.has_values():
         return False
-    if not all([makers[way][0] in outset.names_at(makers[way][1]) for way in makers]):
+    if not all([makers[way][0] in outset.branches_at(makers[way][1]) for way in makers]):
         return False
     return all([leaves_out(makers, row) for _, row in outset.rows_with_forms()])
 

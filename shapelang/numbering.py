@@ -12,19 +12,28 @@ class Numbering:
 
     def number_of(self, shape, inside):
         """Return the number of a shape with the shapes of these numbers put in for its first variables."""
-        if isinstance(shape, tuple):
-            return self.number_at((shape[0], *[self.number_of(part, inside) for part in shape[1:]]))
-        return inside[shape] if shape < len(inside) else self.number_at(shape)
+        if not isinstance(shape, tuple):
+            return inside[shape] if shape < len(inside) else self.number_at(shape)
+        if len(shape) == 1:
+            return self.number_at(shape)
+        return self.number_at((shape[0], *[self.number_of(part, inside) for part in shape[1:]]))
 
     def number_at(self, node):
         """Return the number of a variable, or of a tuple of a Name and the numbers of its parts."""
-        if node not in self.table:
-            parts = node[1:] if isinstance(node, tuple) else ()
-            self.table[node] = len(self.nodes)
-            self.nodes.append(node)
-            self.counts.append(1 + sum([self.counts[part] for part in parts]))
-            self.levels.append(1 + max([self.levels[part] for part in parts], default=0))
-        return self.table[node]
+        if node in self.table:
+            return self.table[node]
+        number = len(self.nodes)
+        count = 1
+        level = 0
+        if isinstance(node, tuple):
+            for part in node[1:]:
+                count = count + self.counts[part]
+                level = self.levels[part] if self.levels[part] > level else level
+        self.table[node] = number
+        self.nodes.append(node)
+        self.counts.append(count)
+        self.levels.append(level + 1)
+        return number
 
     def written(self, number):
         """Return the shape with this number."""

@@ -43,7 +43,9 @@ class Outlining:
         """Return what is found with a maker that has values, None if nothing is."""
         indexes = dict([(name, index) for index, (name, _) in enumerate(self.outset.family.makers[number])])
         best = None
-        for name, parts in self.outset.branches_at(number):
+        branches = self.outset.branches_at(number)
+        for name in branches:
+            parts = branches[name]
             left = tuple([row for row in rows if self.names[row][way] == name])
             found = self.first_parts(way, name, parts, left)
             if found is None:

@@ -7,7 +7,12 @@ from shapelang.ways import Standing
 
 def is_way(value):
     """Whether the value is a tuple of integers."""
-    return isinstance(value, tuple) and all([is_integer(item) for item in value])
+    if not isinstance(value, tuple):
+        return False
+    for item in value:
+        if not is_integer(item):
+            return False
+    return True
 
 
 def are_branches(value, makers):
@@ -22,10 +27,18 @@ def are_branches(value, makers):
 
 def deciding(outset):
     """Return the list of pairs (index, makers) of the rows that meet some form, without makers that all forms have."""
-    return [
-        (index, [maker for maker in makers if len(outset.branches_at(maker[2])) > 1])
-        for index, makers in outset.rows_with_forms()
-    ]
+    rows = []
+    for index, makers in enumerate(outset.rows):
+        left = []
+        for maker in makers:
+            branches = outset.branches_at(maker[2])
+            if maker[1] not in branches:
+                break
+            if len(branches) > 1:
+                left.append(maker)
+        else:
+            rows.append((index, left))
+    return rows
 
 
 class Checking:
@@ -37,7 +50,9 @@ class Checking:
 
     def __init__(self, outset):
         self.outset = outset
-        self.standing = Standing(deciding(outset))
+        self.makers = {}
+        rows = deciding(outset)
+        self.standing = Standing(list({way: True for _, makers in rows for way, _, _ in makers}), rows)
 
     def is_right_end(self, value, left):
         """Whether the value is an end to which just the right forms are led."""
@@ -47,41 +62,48 @@ class Checking:
             return False
         return left[:1] == ((value[1], 0),) or not self.outset.has_values()
 
-    def makers_at(self, tree, unknown):
-        """Return the branches that a look must have, None if it may not stand here.
+    def number_at(self, way, known):
+        """Return the number of the data shape at a way that may be looked at, None if the value is no such way.
 
-        unknown are the numbers of the shapes at the ways that may be looked at, by the ways.
+        known are the numbers of the parts of the makers with which ways are known, by the ways.
         """
-        if len(tree) != 3 or not is_way(tree[1]) or tree[1] not in unknown:
+        if not is_way(way) or way in known:
             return None
-        makers = self.outset.branches_at(unknown[tree[1]])
-        return makers if are_branches(tree[2], makers) else None
+        number = self.outset.family.first
+        if way != ():
+            parts = known.get(way[:-1], ())
+            if not 0 <= way[-1] < len(parts):
+                return None
+            number = parts[way[-1]]
+        return number if self.outset.family.is_data(number) else None
 
-    def unknown_parts(self, way, parts):
-        """Return the dict of those of these parts of the maker at a way that are data shapes."""
-        datas = self.outset.family.makers
-        return dict([((*way, index), part) for index, part in enumerate(parts) if part in datas])
+    def makers_at(self, number):
+        """Return the list of (Name, numbers of the parts) of the branches of a look at a shape."""
+        if number not in self.makers:
+            self.makers[number] = list(self.outset.branches_at(number).items())
+        return self.makers[number]
 
     def is_right(self, value):
         """Whether the value is a right tree."""
-        first = self.outset.family.first
-        waiting = [(value, self.standing.start, {(): first} if self.outset.family.is_data(first) else {})]
+        standing = self.standing
+        waiting = [(value, standing.start, {})]
         while waiting:
-            tree, left, unknown = waiting.pop()
-            if kind_of(tree) != "look":
+            tree, left, known = waiting.pop()
+            if not isinstance(tree, tuple) or len(tree) != 3 or tree[0] != "look":
                 if not self.is_right_end(tree, left):
                     return False
                 continue
-            makers = self.makers_at(tree, unknown)
-            if makers is None:
-                return False
             way = tree[1]
-            bit = self.standing.bits[way] if way in self.standing.bits else 0
-            rest = {**unknown}
-            del rest[way]
+            number = self.number_at(way, known)
+            if number is None:
+                return False
+            makers = self.makers_at(number)
+            if not are_branches(tree[2], makers):
+                return False
+            bit = standing.bits.get(way, 0)
             for (name, parts), branch in zip(makers, tree[2]):
-                behind = self.standing.passed(left, bit, name) if bit else left
-                waiting.append((branch[1], behind, {**rest, **self.unknown_parts(way, parts)} if parts else rest))
+                behind = standing.passed(left, bit, name) if bit else left
+                waiting.append((branch[1], behind, {**known, way: parts}))
         return True
 
 

@@ -21,7 +21,9 @@ class Planting:
 
     def __init__(self, outset):
         self.outset = outset
-        self.standing = Standing(list(enumerate(outset.rows)) if outset.has_values() else [])
+        rows = list(enumerate(outset.rows)) if outset.has_values() else []
+        # In this order the first of several ways comes first among the places of each row.
+        self.standing = Standing(sorted(set([way for _, makers in rows for way, _, _ in makers])), rows)
         self.many = 0
         self.known = {}
 
@@ -48,9 +50,9 @@ class Planting:
 
     def look_at(self, left, bit):
         """Return the look at the way of this bit, which the first row has."""
-        names = self.outset.names_at(self.standing.shapes[left[0][0]][bit])
-        branches = [(name, self.tree_at(self.standing.passed(left, bit, name))) for name in names]
-        return ("look", self.standing.ways[bit], tuple(branches))
+        way, _, number = self.standing.makers[left[0][0]][bit]
+        names = list(self.outset.branches_at(number))
+        return ("look", way, tuple([(name, self.tree_at(self.standing.passed(left, bit, name))) for name in names]))
 
 
 def planted(outset):

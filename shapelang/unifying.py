@@ -39,41 +39,41 @@ def numbered(shapes):
     return list(table), below
 
 
-def united(nodes, pairs):
-    """Return, for each node, a node that equals it if these pairs are equal, and so on up to a last one.
+def united_in_turn(nodes, groups):
+    """Make the pairs of groups equal, one group after another, as long as no unlike tuples had to be equal.
 
-    The last one is a tuple if there is one, otherwise the least variable. Return None if unlike
-    tuples had to be equal.
+    Return, for each node, a node that equals it, and so on up to a last one, and the number of
+    the groups that were done. The last one is a tuple if there is one, otherwise the least variable.
     """
     leaders = list(range(len(nodes)))
-    waiting = list(pairs)
-    while waiting:
-        one, other = waiting.pop()
-        # Each step makes the way to the leader shorter for the next time.
-        while leaders[one] != one:
-            leaders[one] = leaders[leaders[one]]
-            one = leaders[one]
-        while leaders[other] != other:
-            leaders[other] = leaders[leaders[other]]
-            other = leaders[other]
-        if one == other:
-            continue
-        first, second = nodes[one], nodes[other]
-        if isinstance(first, tuple) and isinstance(second, tuple):
-            if first[0] != second[0] or len(first) != len(second):
-                return None
-            waiting.extend(list(zip(first[1:], second[1:])))
-        elif isinstance(second, tuple) or (not isinstance(first, tuple) and second < first):
-            one, other = other, one
-        leaders[other] = one
-    return leaders
+    for done, pairs in enumerate(groups):
+        waiting = list(pairs)
+        while waiting:
+            one, other = waiting.pop()
+            # Each step makes the way to the leader shorter for the next time.
+            while leaders[one] != one:
+                leaders[one] = leaders[leaders[one]]
+                one = leaders[one]
+            while leaders[other] != other:
+                leaders[other] = leaders[leaders[other]]
+                other = leaders[other]
+            if one == other:
+                continue
+            first, second = nodes[one], nodes[other]
+            if isinstance(first, tuple) and isinstance(second, tuple):
+                if first[0] != second[0] or len(first) != len(second):
+                    return leaders, done
+                waiting.extend(list(zip(first[1:], second[1:])))
+            elif isinstance(second, tuple) or (not isinstance(first, tuple) and second < first):
+                one, other = other, one
+            leaders[other] = one
+    return leaders, len(groups)
 
 
-def last_of(leaders, number):
-    """Return the node at the end of the way from this one."""
-    while leaders[number] != number:
-        number = leaders[number]
-    return number
+def united(nodes, pairs):
+    """Return the leaders of united_in_turn for one group of pairs, None if unlike tuples had to be equal."""
+    leaders, done = united_in_turn(nodes, [pairs])
+    return leaders if done == 1 else None
 
 
 def variable_masks(nodes):
@@ -135,6 +135,18 @@ def variable_nodes(nodes):
     return [number for number, node in enumerate(nodes) if not isinstance(node, tuple)]
 
 
+def order_by(nodes, variables, masks, leaders):
+    """Return what is found of nodes with these leaders, None if a tuple had to be within itself."""
+    stands = {}
+    for number in variables:
+        stand = number
+        while leaders[stand] != stand:
+            stand = leaders[stand]
+        stands[number] = stand
+    order = ordered(nodes, masks, stands)
+    return None if order is None else (stands, order)
+
+
 def solved_by(nodes, variables, masks, pairs):
     """Return what is found of the equations of these pairs, None if they have no solution.
 
@@ -142,11 +154,7 @@ def solved_by(nodes, variables, masks, pairs):
     the same nodes many times.
     """
     leaders = united(nodes, pairs)
-    if leaders is None:
-        return None
-    stands = dict([(number, last_of(leaders, number)) for number in variables])
-    order = ordered(nodes, masks, stands)
-    return None if order is None else (stands, order)
+    return None if leaders is None else order_by(nodes, variables, masks, leaders)
 
 
 def solved(nodes, pairs):
