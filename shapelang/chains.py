@@ -2,7 +2,7 @@
 
 from shapelang.errors import BadChain
 from shapelang.names import is_integer
-from shapelang.fronts import same_front
+from shapelang.shapes import same_front
 
 
 def is_index(value, many):

@@ -3,10 +3,9 @@
 from shapelang.chains import equations_shown, is_index
 from shapelang.equations import numbered_groups, solution_holds, solve
 from shapelang.errors import BadChain
-from shapelang.fronts import same_front
 from shapelang.proofs import Proof, kept_rows
 from shapelang.rings import ring_of
-from shapelang.shapes import variables_of
+from shapelang.shapes import same_front, variables_of
 
 
 def chain_shows(groups, value):

@@ -37,16 +37,3 @@ def places_of(expression):
         places.append(place)
         waiting.extend(parts_of_place(place)[::-1])
     return places
-
-
-def numbers_of_parts(places):
-    """Return, for each of all places in order, the tuple of the numbers of its parts."""
-    numbers = [() for _ in places]
-    ends = [0 for _ in places]
-    for number in range(len(places) - 1, -1, -1):
-        end = number + 1
-        for _ in parts_of_place(places[number]):
-            numbers[number] = (*numbers[number], end)
-            end = ends[end]
-        ends[number] = end
-    return numbers
