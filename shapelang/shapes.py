@@ -13,6 +13,8 @@ from shapelang.unifying import numbered, solved, written
 
 # The most parts that a Name may have behind it.
 MOST_PARTS = 3
+INT = ("Int",)
+BOOL = ("Bool",)
 # Beyond all variables, also those of callers who go somewhat beyond the bound.
 APART = 1000000
 
@@ -62,26 +64,34 @@ def is_formed(value):
 
 
 def formed_nodes(value, levels):
-    """Return the number of the nodes of a shape, more than NODES if the value is none or has too many levels."""
-    if levels == 0 or not isinstance(value, tuple):
-        return 1 if levels > 0 and is_variable(value) else TOO_MANY
-    if len(value) == 0 or not is_front(value[0], len(value)):
+    """Return the number of the nodes of a shape that is a tuple, more than NODES if it is none or too large.
+
+    The value is a tuple, and there are no more levels left than these.
+    """
+    if levels == 0 or len(value) == 0:
+        return TOO_MANY
+    # What is_front asks, without a call.
+    if value[0] == "->":
+        if len(value) != 3:
+            return TOO_MANY
+    elif len(value) > MOST_PARTS + 1 or not is_name(value[0]):
         return TOO_MANY
     many = 1
     for part in value[1:]:
-        # Most parts are variables: a call for each of them would take longer.
-        if isinstance(part, int) and levels > 1 and 0 <= part <= VARIABLES and not isinstance(part, bool):
+        if isinstance(part, tuple):
+            # Most innermost tuples are these two.
+            known = levels > 1 and (part == INT or part == BOOL)
+            many = many + (1 if known else formed_nodes(part, levels - 1))
+        elif isinstance(part, int) and levels > 1 and 0 <= part <= VARIABLES and not isinstance(part, bool):
             many += 1
         else:
-            many = many + formed_nodes(part, levels - 1)
-        if many > NODES:
             return TOO_MANY
-    return many
+    return many if many <= NODES else TOO_MANY
 
 
 def is_shape(value):
     """Whether the value is a shape."""
-    return formed_nodes(value, DEPTH) <= NODES
+    return formed_nodes(value, DEPTH) <= NODES if isinstance(value, tuple) else is_variable(value)
 
 
 def variables_of(shape):
