@@ -43,12 +43,12 @@ class Leading:
     def __init__(self, outset):
         self.family = outset.family
         self.forms = least_forms(outset.family, outset.sizes, outset.chosen)
-        self.keys = least_keys(outset.family, outset.sizes, outset.chosen)
+        self.ranks = least_keys(outset.family, outset.sizes, outset.chosen)
 
     def first_at(self, way, number, known):
         """Return (key, form) of the first form of a shape at a way, with these makers at the known ways."""
         if way not in known:
-            return self.keys[number], self.forms[number]
+            return self.ranks[number], self.forms[number]
         names = [name for name, _ in self.family.makers[number]]
         index = names.index(known[way])
         _, parts = self.family.makers[number][index]

@@ -392,6 +392,56 @@ class Language(unittest.TestCase):
                 if node.attr in methods and node not in called:
                     self.fail(f"{file.name} {node.lineno}: {node.attr}")
 
+    def test_names_of_methods_and_attributes(self):
+        """L26: what strings, numbers, lists, dicts, sets and bytes have is free but for a few names."""
+        builtin = {name for kind in (str, int, list, dict, set, bytes) for name in dir(kind)}
+        first = BUILTIN_METHODS - {"isascii"}
+        for file in FILES:
+            for node in nodes(file, ast.Attribute):
+                if isinstance(node.ctx, ast.Store) and node.attr in builtin:
+                    self.assertIn(node.attr, "count index title find get join lower upper split strip copy add".split(), file.name)
+            for name in method_names(parsed(file)):
+                if name in builtin and not name.startswith("__"):
+                    self.assertIn(name, first | {"add", "discard"}, file.name)
+
+    def test_properties_and_attributes(self):
+        methods, properties, values, stored = set(), set(), set(), set()
+        for file in FILES:
+            for node in nodes(file, ast.ClassDef):
+                for part in node.body:
+                    if isinstance(part, ast.FunctionDef):
+                        (properties if is_property(part) else methods).add(part.name)
+                    elif isinstance(part, ast.Assign):
+                        self.assertIsInstance(part.value, ast.Constant)
+                        values.add(part.targets[0].id)
+            stored |= {node.attr for node in nodes(file, ast.Attribute) if isinstance(node.ctx, ast.Store)}
+        self.assertEqual(properties & (methods | values | stored), set())
+        self.assertEqual(values & (methods | stored), set())
+        for file in FILES:
+            for node in nodes(file, ast.Attribute):
+                if isinstance(node.ctx, ast.Load) and node.attr not in BUILTIN_METHODS | {"__init__", "__class__", "__name__"}:
+                    self.assertIn(node.attr, methods | properties | values | stored, file.name)
+
+    def test_names_of_caught_errors_stand_alone(self):
+        for file in FILES:
+            for function in nodes(file, ast.FunctionDef):
+                for handler in [node for node in ast.walk(function) if isinstance(node, ast.ExceptHandler)]:
+                    self.assertIsNotNone(handler.type)
+                    others = [node.id for node in ast.walk(function) if isinstance(node, ast.Name) and isinstance(node.ctx, ast.Store)]
+                    self.assertNotIn(handler.name, [*others, *[part.arg for part in function.args.args]])
+
+    def test_finally_is_simple(self):
+        for file in FILES:
+            for node in nodes(file, ast.Try):
+                for part in [inner for row in node.finalbody for inner in ast.walk(row)]:
+                    self.assertIsInstance(part, (ast.Assign, ast.If, ast.Name, ast.Attribute, ast.Constant, ast.Compare, ast.Is, ast.Load, ast.Store))
+
+    def test_calls_of_methods_named_like_builtin_ones_have_no_keywords(self):
+        for file in FILES:
+            for node in nodes(file, ast.Call):
+                if isinstance(node.func, ast.Attribute) and node.func.attr in BUILTIN_METHODS:
+                    self.assertEqual(node.keywords, [], file.name)
+
     def test_sets_stand_in_sorted_alone(self):
         for file in FILES:
             inside = [part for node in nodes(file, ast.Call) if ast.unparse(node.func) == "sorted" for part in node.args[:1]]
