@@ -67,6 +67,11 @@ class Lines(unittest.TestCase):
             ("run count 50", "open"), ("define h is hole", "ok 5"), ("run 1", "error HasHole"),
         )
 
+    def test_brackets(self):
+        asked = Console(Session.read("data B a is E, Bx a; data T is L, N T T T;"))
+        self.answers(asked, ("run Bx 1", "value Bx 1"), ("run Bx (Bx 1)", "value Bx (Bx 1)"), ("run Bx E", "value Bx E"), ("run Bx (fun x -> x)", "value Bx fun"),
+                     ("run Bx (Bx (Bx E))", "value Bx (Bx (Bx E))"), ("run N L (N L L L) L", "value N L (N L L L) L"), ("run match Bx (Bx 2) with end", "missing Bx (Bx 2)"))
+
     def test_large_values(self):
         asked = Console(Session.read("data T is L, N T T T; f is fun n -> match n = 0 with | True -> L | _ -> let t = f (n - 1) in N t t t end;"))
         self.answers(asked, ("run f 1", "value N L L L"), ("run f 6", "value large"), ("run f 40", "value large"), ("run match f 6 with end", "missing large"),

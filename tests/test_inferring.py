@@ -1,5 +1,6 @@
 import random
 import unittest
+from itertools import product
 
 from makes import (ANY, DATAS, HOLE, KNOWN, NIL, SMALL_DATAS, YES, call, fun, funs, make, number, op, random_expression,
                    sums, word)
@@ -8,6 +9,7 @@ from shapelang.clashes import all_clashes, all_repairs, find_clash, is_clash, is
 from shapelang.equations import has_solution, solve
 from shapelang.errors import Clash, NoPlace, TooLarge, TooMany
 from shapelang.inferring import clashes_of, derivation_holds, derive, groups_of, hole_scheme, infer, repairs_of
+from shapelang.places import has_room
 from shapelang.programs import binder_of, count_places, expression_error, part_at, replaced
 from shapelang.readers import parse_expression, parse_shape
 from shapelang.schemes import Scheme
@@ -207,6 +209,53 @@ class Schemes(Raises, unittest.TestCase):
         with self.assertRaises(Clash):
             infer(DATAS, known, op("+", twice, YES))
 
+    def test_too_many_variables_for_all_functions_alike(self):
+        """Lets with eleven variables each, and what has some more: at the bound, and just beyond it."""
+        pieces = (number(), HOLE, fun("y", HOLE), NIL, fun("y", fun("z", word("y"))), make("Cons", HOLE, NIL), call(fun("y", HOLE), HOLE), call(word("id"), HOLE),
+                  ("match", NIL, ((make("Cons", ANY, word("y")), fun("z", word("y"))),)))
+        bodies = (number(), HOLE, fun("y", HOLE), word("nine"), call(HOLE, HOLE), make("Cons", HOLE, NIL))
+        seen = {}
+        for nines, first, body in product((15, 16, 17), pieces, bodies):
+            for part in [word("nine")] * nines + [first]:
+                body = ("let", "x", part, body)
+            if not has_room(body):
+                continue
+            arguments = (DATAS, NINE, body)
+            try:
+                groups = groups_of(*arguments)
+            except TooLarge:
+                for function in (infer, derive):
+                    self.refused(TooLarge, VARIABLES, function, *arguments)
+                self.refused(TooLarge, VARIABLES, derivation_holds, *arguments, None)
+                self.refused(TooLarge, VARIABLES, clashes_of, *arguments)
+                seen["large"] = seen.get("large", 0) + 1
+            else:
+                many = len(groups) + max([0, *[variable - len(groups) + 1 for group in groups for side in group for variable in variables_of(("all", *side))]])
+                self.assertEqual(len(derive(*arguments)), len(groups))
+                seen[many] = seen.get(many, 0) + 1
+        self.assertIn(200, seen)
+        self.assertGreater(seen["large"], 5)
+
+    def test_variables_are_one_level_and_one_node(self):
+        deep = 3
+        for _ in range(28):
+            deep = ("List", deep)
+        # A tree of arrows with 199 nodes, and one with 197.
+        trees = {1: 0, 2: arrow(0, 0)}
+        for leaves in range(3, 101):
+            trees[leaves] = arrow(trees[leaves // 2], trees[leaves - leaves // 2])
+        for shape, fits in ((deep, 1), (trees[100], 1), (("List", trees[100]), 0), (trees[99], 3)):
+            known = (("it", shape),)
+            part = word("it")
+            for lists in range(5):
+                expression = ("let", "x", part, HOLE)
+                if lists <= fits:
+                    self.assertEqual(str(infer(DATAS, known, expression)), "a")
+                else:
+                    for function in (infer, derive):
+                        self.refused(TooLarge, NODES, function, DATAS, known, expression)
+                part = make("Cons", part, NIL)
+
     def test_many_nodes(self):
         for nodes in (195, 196, 197):
             known = (("most", wide_shape(nodes)), ("few", ("->", INT, INT)))
@@ -231,9 +280,46 @@ def put(shape, shapes):
     return (shape[0], *[put(part, shapes) for part in shape[1:]])
 
 
+def blank(source, expression):
+    """The expression with holes in the place of some numbers and words."""
+    kind = expression[0]
+    if kind in ("number", "word", "hole"):
+        return HOLE if source.random() < 0.6 else expression
+    if kind == "match":
+        return ("match", blank(source, expression[1]), tuple((pattern, blank(source, part)) for pattern, part in expression[2]))
+    first = {"make": 2, "fun": 2, "call": 1, "let": 2, "op": 2}[kind]
+    return (*expression[:first], *[blank(source, part) for part in expression[first:]])
+
+
 class Derivations(unittest.TestCase):
     def holds(self, expression, value):
         return derivation_holds(DATAS, KNOWN, expression, value)
+
+    def test_as_the_groups_tell(self):
+        """With shapes that have no variables, the groups tell whether these are a derivation."""
+        source = random.Random(40)
+        choices = [INT, BOOL, ("List", INT), ("List", BOOL), arrow(INT, BOOL), arrow(INT, INT), ("Pair", INT, BOOL), ("Work", INT, INT)]
+        seen = {True: 0, False: 0}
+        while min(seen.values()) < 800:
+            expression = blank(source, random_expression(source, source.randrange(1, 4)))
+            groups = groups_of(DATAS, KNOWN, expression)
+            try:
+                plain = derive(DATAS, KNOWN, expression)
+            except Clash:
+                plain = [INT for _ in groups]
+            given = {variable: source.choice(choices) for variable in variables_of(("all", *plain))}
+            shapes = [put(shape, given) for shape in plain]
+            for _ in range(source.randrange(3)):
+                at = source.randrange(len(shapes))
+                shapes[at] = source.choice([*choices, *shapes])
+            right = has_solution((*groups, *[((place, shape),) for place, shape in enumerate(shapes)]))
+            seen[right] += 1
+            self.assertEqual(derivation_holds(DATAS, KNOWN, expression, tuple(shapes)), right, (expression, shapes))
+
+    def test_signs(self):
+        for sign, gives in (("+", INT), ("-", INT), ("*", INT), ("<", BOOL), ("=", BOOL)):
+            for shapes in [(one, two, three) for one in (INT, BOOL, 0) for two in (INT, BOOL, 0) for three in (INT, BOOL, 0)]:
+                self.assertEqual(self.holds(op(sign, HOLE, HOLE), shapes), shapes == (gives, INT, INT))
 
     def test_instances(self):
         source = random.Random(41)

@@ -77,11 +77,12 @@ class Shown(unittest.TestCase):
                 self.assertEqual(outcome, ("value", ("large",)))
             else:
                 self.assertEqual(outcome, ("value", list_of(*range(many, 0, -1))))
-        # A function within 99 lists and a number there are at the same level.
-        whole = parse_book("data B a is Bx a; data N is N0, Nx N; box is fun n -> fun f -> match n = 0 with | True -> f | _ -> Nx (box (n - 1) f) end;")
-        for many, large in ((99, False), (100, True)):
-            outcome, _ = run(whole, parse_expression(f"box {many} N0"), 2000)
+        # A maker without parts, a number and a function are one level.
+        whole = parse_book("data N is N0, Nx N, F (Int -> Int), I Int; box is fun n -> fun f -> match n = 0 with | True -> f | _ -> Nx (box (n - 1) f) end;")
+        for many, inner, large in ((99, "N0", False), (100, "N0", True), (98, "(F (fun x -> x))", False), (99, "(F (fun x -> x))", True), (98, "(I 5)", False), (99, "(I 5)", True)):
+            outcome, _ = run(whole, parse_expression(f"box {many} {inner}"), 2000)
             self.assertEqual(outcome == ("value", ("large",)), large)
+            self.assertEqual(outcome, evaluated(whole, parse_expression(f"box {many} {inner}"), 2000)[0])
 
     def test_items(self):
         whole = parse_book("""data T is L, N T T T, I T Int, F (Int -> Int);
@@ -89,7 +90,7 @@ class Shown(unittest.TestCase):
         # A full one of n levels has (3 ** (n + 1) - 1) / 2 makers: 364 of five, 121 of four, 4 of one.
         for last, many in (("full 1", 490), ("N (full 1) (full 1) (full 1)", 499), ("N (full 1) (full 1) (I (I L 1) 2)", 500),
                            ("N (full 1) (full 1) (I (F (fun x -> x)) 2)", 499), ("N (full 1) (full 1) (I (I (F (fun x -> x)) 2) 3)", 501),
-                           ("I (N (full 1) (full 1) (full 1)) 7", 501), ("N (full 1) (full 1) (N (full 1) L L)", 502), ("full 5", 850)):
+                           ("N (full 1) (full 1) (N (F (fun x -> x)) L L)", 500), ("I (N (full 1) (full 1) (full 1)) 7", 501), ("N (full 1) (full 1) (N (full 1) L L)", 502), ("full 5", 850)):
             expression = parse_expression(f"N (full 5) (full 4) ({last})")
             outcome, _ = run(whole, expression, 2000)
             self.assertEqual(outcome, evaluated(whole, expression, 2000)[0])
