@@ -2,12 +2,15 @@
 
 import random
 import unittest
+from unittest import mock
 
 from makes import funs
-from samples import BOOL, INT, Raises, boxes, broad
+from samples import BOOL, INT, Raises, boxes, broad, random_groups
+from shapelang import binding
+from shapelang.binding import LONG, bound
 from shapelang.clashes import find_clash, is_clash
 from shapelang.equations import has_solution, solution_holds, solve
-from shapelang.errors import BadText, NoMeeting, TooLarge
+from shapelang.errors import BadText, NoMeeting, NoSolution, TooLarge
 from shapelang.grammar import FIRSTS, rules_for
 from shapelang.readers import parse_book, parse_definition, parse_expression, parse_pattern, parse_shape
 from shapelang.schemes import Scheme
@@ -102,6 +105,45 @@ class Meetings(Raises, unittest.TestCase):
         self.assertEqual(common(one, one), one)
         self.assertEqual(common(boxes(29, INT), boxes(29, BOOL)), boxes(29))
         self.assertEqual(common(boxes(29, INT), boxes(28, BOOL)), boxes(28))
+
+
+class ManySteps(Raises, unittest.TestCase):
+    """Where the quick way would need too many steps, the other one finds the same."""
+
+    def answer(self, function, *arguments):
+        try:
+            return function(*arguments)
+        except (NoSolution, TooLarge) as error:
+            return type(error), vars(error)
+
+    def test_few_steps(self):
+        source = random.Random(3)
+        seen = set()
+        for _ in range(400):
+            groups = random_groups(source, source.randrange(1, 6), depth=3)
+            shapes = [side for group in groups for equation in group for side in equation][:2]
+            pairs = [(has_solution, (groups,)), (solve, (groups,)), (meeting, tuple(shapes))][:2 + (len(shapes) == 2)]
+            right = [self.answer(function, *arguments) for function, arguments in pairs]
+            for most in (1, 2, 5):
+                with mock.patch.object(binding, "MOST_STEPS", most):
+                    seen.add(bound([equation for group in groups for equation in group]) == LONG)
+                    self.assertEqual([self.answer(function, *arguments) for function, arguments in pairs], right)
+        self.assertEqual(seen, {True, False})
+
+    def test_sizes_are_the_same(self):
+        for most in (1, binding.MOST_STEPS):
+            with mock.patch.object(binding, "MOST_STEPS", most):
+                for shape in (boxes(29, INT), boxes(29, 5), broad(200, INT), broad(200, 5)):
+                    groups = (((0, ("Box", 7)),), ((("Box", 7), shape),)) if shape[0] == "Box" else (((0, shape),),)
+                    self.assertEqual(dict(solve(groups))[0], shape)
+                    self.assertEqual(meeting(shape, 3), normal(shape))
+                    self.assertEqual(meeting(3, shape), normal(shape))
+                for shape in (boxes(30, INT), boxes(30, 5), broad(201, INT), broad(201, 5)):
+                    self.refused(TooLarge, LARGE, solve, (((0, shape),),))
+                # Boxes around what the other one has in the place of 1.
+                self.assertEqual(meeting(("P", boxes(14, 1), 1), ("P", 0, boxes(14, INT))), ("P", boxes(28, INT), boxes(14, INT)))
+                self.refused(TooLarge, LARGE, meeting, ("P", boxes(15, 1), 1), ("P", 0, boxes(14, INT)))
+                self.refused(TooLarge, LARGE, meeting, ("Q", broad(120, INT), 0), ("Q", 0, broad(120, INT)))
 
 
 class Texts(Raises, unittest.TestCase):

@@ -42,7 +42,16 @@ class IsShape(unittest.TestCase):
     def test_levels(self):
         for levels in (1, 2, 29, 30, 31, 32, 59):
             self.assertEqual(is_shape(boxes(levels - 1, 5)), levels <= 30)
-            self.assertEqual(is_shape(boxes(levels - 1, INT)), levels <= 30)
+            for inner in (INT, BOOL, ("Unit",), ("A1",)):
+                self.assertEqual(is_shape(boxes(levels - 1, inner)), levels <= 30)
+            for inner in (("->", 0, 0), ("Pair", INT, ("Unit",)), ("Box", ("Unit",))):
+                self.assertEqual(is_shape(boxes(levels - 1, inner)), levels <= 29)
+
+    def test_innermost_parts(self):
+        """Int and Bool are looked at sooner than other tuples."""
+        for inner, right in ((INT, True), (BOOL, True), (("int",), False), (("Int", True), False), ((), False), ((True,), False), (("Bool", 0), True), (("Int", INT), True)):
+            for around in (lambda part: part, lambda part: ("Box", part), lambda part: ("Pair", INT, part), lambda part: ("->", part, BOOL)):
+                self.assertEqual(is_shape(around(inner)), right, inner)
 
     def test_variables(self):
         for value, right in [(0, True), (1, True), (199, True), (200, False), (-1, False), (True, False),
