@@ -2,7 +2,7 @@
 
 from shapelang.formed import kind_of
 from shapelang.names import is_integer
-from shapelang.ways import Standing
+from shapelang.ways import Outset, Standing
 
 
 def is_way(value):
@@ -25,20 +25,28 @@ def are_branches(value, makers):
     return True
 
 
-def deciding(outset):
-    """Return the list of pairs (index, makers) of the rows that meet some form, without makers that all forms have."""
-    rows = []
-    for index, makers in enumerate(outset.rows):
-        left = []
-        for maker in makers:
-            branches = outset.branches_at(maker[2])
-            if maker[1] not in branches:
-                break
-            if len(branches) > 1:
-                left.append(maker)
-        else:
-            rows.append((index, left))
-    return rows
+def is_look(value):
+    """Whether the value begins as a look."""
+    return isinstance(value, tuple) and len(value) == 3 and value[0] == "look"
+
+
+def is_end(value):
+    """Whether the value is an end."""
+    if value == ("none",):
+        return True
+    return kind_of(value) == "row" and len(value) == 2 and is_integer(value[1]) and value[1] >= 0
+
+
+def deciding_makers(outset, makers):
+    """Return the list of those of the makers of a row that not all forms have, None if the row meets no form."""
+    left = []
+    for maker in makers:
+        branches = outset.branches_at(maker[2])
+        if maker[1] not in branches:
+            return None
+        if len(branches) > 1:
+            left.append(maker)
+    return left
 
 
 class Checking:
@@ -51,16 +59,18 @@ class Checking:
     def __init__(self, outset):
         self.outset = outset
         self.makers = {}
-        rows = deciding(outset)
+        rows = []
+        for index, makers in enumerate(outset.rows):
+            left = deciding_makers(outset, makers)
+            if left is not None:
+                rows.append((index, left))
         self.standing = Standing(list({way: True for _, makers in rows for way, _, _ in makers}), rows)
 
     def is_right_end(self, value, left):
         """Whether the value is an end to which just the right forms are led."""
-        if value == ("none",):
-            return left == () or not self.outset.has_values()
-        if kind_of(value) != "row" or len(value) != 2 or not is_integer(value[1]) or value[1] < 0:
-            return False
-        return left[:1] == ((value[1], 0),) or not self.outset.has_values()
+        if not is_end(value) or not self.outset.has_values():
+            return is_end(value)
+        return left == () if value[0] == "none" else left[:1] == ((value[1], 0),)
 
     def number_at(self, way, known):
         """Return the number of the data shape at a way that may be looked at, None if the value is no such way.
@@ -89,7 +99,7 @@ class Checking:
         waiting = [(value, standing.start, {})]
         while waiting:
             tree, left, known = waiting.pop()
-            if not isinstance(tree, tuple) or len(tree) != 3 or tree[0] != "look":
+            if not is_look(tree):
                 if not self.is_right_end(tree, left):
                     return False
                 continue
@@ -107,6 +117,20 @@ class Checking:
         return True
 
 
-def is_right_tree(outset, value):
-    """Whether the value is a right tree for the rows."""
-    return Checking(outset).is_right(value)
+def is_right_alone(outset, rows, value):
+    """Whether a value that is no look is a right tree for these rows."""
+    if not is_end(value) or not outset.has_values():
+        return is_end(value)
+    for index, pattern in enumerate(rows):
+        left = deciding_makers(outset, outset.makers_at(pattern))
+        if left is not None:
+            # This row is the first one that meets some form.
+            return value == ("row", index) and not left
+    return value == ("none",)
+
+
+def is_right_tree(family, rows, value):
+    """Whether the value is a right tree for rows, with the first shape of a family."""
+    if is_look(value):
+        return Checking(Outset(family, rows)).is_right(value)
+    return is_right_alone(Outset(family, ()), rows, value)

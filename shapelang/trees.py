@@ -68,7 +68,7 @@ def tree_of(datas, shape, rows):
 
 def tree_holds(datas, shape, rows, value):
     """Return whether the value is a right tree for the rows."""
-    return is_right_tree(Outset(Family(datas, shape), rows), value)
+    return is_right_tree(Family(datas, shape), rows, value)
 
 
 def ends_of(tree):
