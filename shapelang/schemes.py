@@ -2,7 +2,8 @@
 
 from shapelang.errors import BadCount, BadShape, NoMeeting
 from shapelang.readers import parse_shape
-from shapelang.shapes import is_instance, is_shape, meeting, pattern_of, put_in, renamed, variables_of
+from shapelang.shapes import is_instance, is_shape, meeting, pattern_of, put_in, renamed
+from shapelang.shapes import variables_if_shape, variables_of
 from shapelang.writers import shape_text
 
 
@@ -21,11 +22,12 @@ class Scheme:
         if isinstance(shape, Normal):
             self._shape = shape.whole
             self._variables = shape.variables
-        elif is_shape(shape):
-            self._variables = variables_of(shape)
-            self._shape = renamed(shape, self._variables)
         else:
-            raise BadShape(shape)
+            variables = variables_if_shape(shape)
+            if variables is None:
+                raise BadShape(shape)
+            self._shape = renamed(shape, variables)
+            self._variables = variables
 
     @property
     def shape(self):

@@ -107,6 +107,29 @@ def variables_of(shape):
     return tuple(found)
 
 
+def variables_if_shape(value):
+    """Return the tuple of the variables of a shape in the order in which they occur first, None if it is none."""
+    found = {}
+    nodes = 0
+    waiting = [value]
+    while waiting:
+        part = waiting.pop()
+        nodes += 1
+        if isinstance(part, tuple):
+            if len(part) == 0 or nodes > NODES or not is_front(part[0], len(part)):
+                return None
+            if len(part) > 1:
+                waiting.extend(part[:0:-1])
+        elif isinstance(part, int) and 0 <= part <= VARIABLES and not isinstance(part, bool):
+            found[part] = True
+        else:
+            return None
+    # With few nodes there are not too many levels.
+    if nodes > NODES or (nodes > DEPTH and not is_small(value)):
+        return None
+    return tuple(found)
+
+
 def count_nodes(shape):
     """Return the number of nodes."""
     if not isinstance(shape, tuple):
