@@ -59,12 +59,12 @@ class Checking:
     def __init__(self, outset):
         self.outset = outset
         self.makers = {}
-        rows = []
+        found = []
         for index, makers in enumerate(outset.rows):
             left = deciding_makers(outset, makers)
             if left is not None:
-                rows.append((index, left))
-        self.standing = Standing(list({way: True for _, makers in rows for way, _, _ in makers}), rows)
+                found.append((index, left))
+        self.standing = Standing(list({way: True for _, makers in found for way, _, _ in makers}), found)
 
     def is_right_end(self, value, left):
         """Whether the value is an end to which just the right forms are led."""

@@ -57,11 +57,11 @@ class Outset:
 
     def rows_with_forms(self):
         """Return the list of pairs (index, makers) of the rows that meet some form."""
-        rows = []
+        found = []
         for index, makers in enumerate(self.rows):
             if all([name in self.branches_at(number) for _, name, number in makers]):
-                rows.append((index, makers))
-        return rows
+                found.append((index, makers))
+        return found
 
 
 class Standing:

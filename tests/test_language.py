@@ -292,6 +292,8 @@ class Language(unittest.TestCase):
         for file in FILES:
             for loop in nodes(file, ast.For):
                 over = {ast.unparse(part) for part in ast.walk(loop.iter) if isinstance(part, (ast.Name, ast.Attribute))}
+                # An attribute and a local name that are called alike are not told apart.
+                over |= {part.attr for part in ast.walk(loop.iter) if isinstance(part, ast.Attribute)}
                 copied = isinstance(loop.iter, ast.Call) and ast.unparse(loop.iter.func) in ("list", "range", "sorted")
                 if copied or isinstance(loop.iter, ast.Subscript) and isinstance(loop.iter.slice, ast.Slice):
                     continue
