@@ -1,8 +1,9 @@
 """Schemes: all shapes of which one shape is more general."""
 
+from shapelang.bounds import NODES
 from shapelang.errors import BadCount, BadShape, NoMeeting
 from shapelang.readers import parse_shape
-from shapelang.shapes import is_instance, is_shape, meeting, pattern_of, put_in, renamed
+from shapelang.shapes import filled, is_instance, meeting, nodes_of, pattern_of, renamed
 from shapelang.shapes import variables_if_shape, variables_of
 from shapelang.writers import shape_text
 
@@ -45,10 +46,12 @@ class Scheme:
             raise BadCount(None)
         if len(shapes) != len(self._variables):
             raise BadCount(len(shapes))
+        counts = []
         for shape in shapes:
-            if not is_shape(shape):
+            counts.append(nodes_of(shape))
+            if counts[-1] > NODES:
                 raise BadShape(shape)
-        return put_in(self._shape, *shapes)
+        return filled(self._shape, shapes, counts)
 
     def __contains__(self, shape):
         return is_instance(self._shape, shape)

@@ -89,9 +89,16 @@ def formed_nodes(value, levels):
     return many if many <= NODES else TOO_MANY
 
 
+def nodes_of(value):
+    """Return the number of the nodes of a shape, more than NODES if the value is none."""
+    if isinstance(value, tuple):
+        return formed_nodes(value, DEPTH)
+    return 1 if is_variable(value) else TOO_MANY
+
+
 def is_shape(value):
     """Whether the value is a shape."""
-    return formed_nodes(value, DEPTH) <= NODES if isinstance(value, tuple) else is_variable(value)
+    return nodes_of(value) <= NODES
 
 
 def variables_of(shape):
@@ -325,6 +332,16 @@ def written_values(values, members, order):
             for member in members[variable]:
                 table[member] = shape
     return table
+
+
+def filled(shape, shapes, counts):
+    """Return what put_in does with shapes that have these numbers of nodes."""
+    # No shape has more levels than nodes: most results need no look of their own.
+    nodes, levels = size_of(shape, dict(enumerate([(many, many) for many in counts])), DEPTH)
+    result = with_variables(shape, dict(enumerate(shapes))) if nodes <= NODES else None
+    if nodes > NODES or (levels > DEPTH and not is_small(result)):
+        raise TooLarge(NODES)
+    return result
 
 
 def long_meeting(one, other):
