@@ -99,6 +99,14 @@ class Called(Raises, unittest.TestCase):
         self.refused(TooLarge, {"limit": 200}, scheme, (broad(100), broad(100)))
         self.assertEqual(scheme((broad(100), broad(99))), ("Pair", broad(100), broad(99)))
         self.refused(TooLarge, {"limit": 200}, scheme, (0, boxes(29)))
+        both = Scheme(("P", 0, 1))
+        for levels in range(25, 31):
+            for nodes in (1, 5, 90, 199 - levels - 1, 200 - levels):
+                arguments = (boxes(levels - 1, ("Unit",)), broad(nodes))
+                if levels <= 29 and levels + nodes <= 199:
+                    self.assertEqual(both(arguments), ("P", *arguments))
+                else:
+                    self.refused(TooLarge, {"limit": 200}, both, arguments)
         self.assertEqual(scheme((0, boxes(28))), ("Pair", 0, boxes(28)))
 
 
